@@ -1,0 +1,1 @@
+"""Sums of squares and products of machine words, at every width."""
