@@ -1,6 +1,7 @@
 """Inputs that the tests make by themselves, and slow ways to the same results, close to the document's words."""
 
 from fractions import Fraction
+from functools import lru_cache
 from itertools import permutations, product
 
 KINDS = (0, 1, 2, 3, 5, 7)
@@ -243,3 +244,190 @@ def scales_in(pieces):
         many, odd = found.get(k, (0, False))
         found[k] = (many + (1 if kind % 2 else 2), odd or kind % 2 == 1)
     return [(k, many, odd) for k, (many, odd) in sorted(found.items())]
+
+
+def unknowns_in(pieces):
+    return sum(1 if kind % 2 else 2 for _, kind in pieces)
+
+
+def pieces_up_to(scales, unknowns, kinds=KINDS):
+    """All pieces with scales below a number and of at most so many unknowns, in order."""
+    choices = [(k, kind) for k in range(scales) for kind in kinds]
+    found = [[]]
+    last = [[]]
+    while last:
+        last = [ahead + [piece] for ahead in last for piece in choices if not ahead or ahead[-1] <= piece]
+        last = [pieces for pieces in last if unknowns_in(pieces) <= unknowns]
+        found.extend(last)
+    return sorted(found)
+
+
+def kinds_at(pieces, scale):
+    return [kind for k, kind in pieces if k == scale]
+
+
+def is_odd_scale(pieces, scale):
+    return any(kind % 2 for kind in kinds_at(pieces, scale))
+
+
+def slow_signs(pieces):
+    """The scales by the words of point 14."""
+    found = []
+    for k in sorted({k for k, _ in pieces}):
+        kinds = kinds_at(pieces, k)
+        minus = sum(kind in (2, 3, 5) for kind in kinds)
+        found.append((k, sum(1 if kind % 2 else 2 for kind in kinds), is_odd_scale(pieces, k), -1 if minus % 2 else 1))
+    return found
+
+
+def slow_chain(pieces, scale):
+    """The numbers of the chain in which an odd scale stands."""
+    first = last = scale
+    while first > 0 and is_odd_scale(pieces, first - 1):
+        first -= 1
+    while is_odd_scale(pieces, last + 1):
+        last += 1
+    return range(first, last + 1)
+
+
+def slow_chains(pieces):
+    found = set()
+    for k, _ in pieces:
+        if is_odd_scale(pieces, k):
+            chain = slow_chain(pieces, k)
+            found.add((chain[0], sum(kind for at in chain for kind in kinds_at(pieces, at) if kind % 2) % 8))
+    return sorted(found)
+
+
+def slow_way(pieces, scale):
+    """The scales on the way on which a scale is, going on from count to count."""
+    def joined(at):
+        return is_odd_scale(pieces, at) or is_odd_scale(pieces, at + 1)
+
+    first = last = scale
+    while first > 0 and joined(first - 1):
+        first -= 1
+    while joined(last):
+        last += 1
+    return [k for k in range(first, last + 1) if kinds_at(pieces, k)]
+
+
+def slow_ways(pieces):
+    return sorted({(slow_way(pieces, k)[0], slow_way(pieces, k)[-1]) for k, _ in pieces})
+
+
+def slow_symbol(pieces, size):
+    """The symbol by the words of point 15: each sign -1 is walked on its own, step by step."""
+    signs = {k: sign for k, _, _, sign in slow_signs(pieces)}
+    sums = dict(slow_chains(pieces))
+    for k in sorted(signs, reverse=True):
+        least = slow_way(pieces, k)[0]
+        if signs[k] == -1 and k != least:
+            signs[k], signs[least] = 1, -signs[least]
+            for at in range(least, k):
+                odd = at if is_odd_scale(pieces, at) else at + 1
+                sums[slow_chain(pieces, odd)[0]] += 4
+    scales = [(k, many, odd, signs[k]) for k, many, odd, _ in slow_signs(pieces)]
+    return scales, [(k, sums[k] % 8) for k in sorted(sums)], size - unknowns_in(pieces)
+
+
+def as_key(value):
+    """A value with all of its lists turned into tuples, so that it can be a key."""
+    if isinstance(value, (list, tuple)):
+        return tuple(as_key(item) for item in value)
+    return value
+
+
+def steps_to_all(size):
+    """Changes of which each change of words is a product, whatever the width."""
+    unit = [[int(i == j) for j in range(size)] for i in range(size)]
+    found = []
+    for i in range(size):
+        for j in range(size):
+            for item in (1,) if i != j else (3, 5, -1):
+                change = [list(row) for row in unit]
+                change[i][j] = item
+                found.append(change)
+    return found
+
+
+@lru_cache
+def classes_by_changes(width, size):
+    """The dict of all tables at a width, as keys, and the number of the class in which changes hold each."""
+    steps = steps_to_all(size)
+    numbers = {}
+    many = 0
+    for table in small_tables(width, size):
+        if as_key(table) not in numbers:
+            numbers[as_key(table)] = many
+            left = [table]
+            while left:
+                form = left.pop()
+                for change in steps:
+                    reached = slow_table(width, slow_changed(form, change))
+                    if as_key(reached) not in numbers:
+                        numbers[as_key(reached)] = many
+                        left.append(reached)
+            many += 1
+    return numbers
+
+
+def slow_counts(width, form):
+    """How often each word is taken, by going through all lists of words."""
+    found = [0] * 2 ** width
+    for words in product(range(2 ** width), repeat=len(form)):
+        found[slow_value(width, form, words)] += 1
+    return found
+
+
+def led_by(width, form, change):
+    """The table at a width of the form that a change makes of a form."""
+    return slow_table(width, slow_changed(form, change))
+
+
+def are_words_below(width, rows):
+    return all(type(item) is int and 0 <= item < 2 ** width for row in rows for item in row)
+
+
+def settled(one, other):
+    """The t + 3 of point 22 of two forms, 1 where neither has pieces."""
+    pieces = slow_pieces_of(one) + slow_pieces_of(other)
+    return max([k + 3 if kind % 2 else k + 4 for k, kind in pieces], default=1)
+
+
+def two_sums(many, seed, scales):
+    """Tuples of two sums of pieces with scales below a number, often alike ones, or alike up to some width."""
+    numbers = Numbers(seed)
+    for at in range(many):
+        size = at % 6 + 1
+        pieces = numbers.pieces(size, numbers.one_of((min(2, scales), min(4, scales), scales)))
+        if pieces:
+            more = numbers.one_of((0, 0, scales - 1 - pieces[-1][0]))
+            pieces = [(k + more, kind) for k, kind in pieces]
+        others = []
+        for k, kind in pieces:
+            what = numbers.below(12)
+            if what < 4:
+                others.append((k, (kind + 4) % 8 if kind % 2 else 2 - kind))
+            elif what == 4:
+                others.append((numbers.below(scales), kind))
+            elif what == 5 and kind % 2 == 0:
+                others.extend([(k, 1), (k, 7)])
+            elif what < 8 and kind % 2:
+                others.append((k, numbers.one_of((1, 3, 5, 7))))
+            else:
+                others.append((k, kind))
+        yield rows_of(pieces, size), rows_of(sorted(others), size)
+
+
+def rows_of(pieces, size):
+    """The sum of pieces."""
+    rows = [[0] * size for _ in range(size)]
+    at = 0
+    for k, kind in pieces:
+        rows[at][at] = 2 ** k * kind
+        if kind % 2 == 0:
+            rows[at + 1][at + 1] = 2 ** k * kind
+            rows[at][at + 1] = rows[at + 1][at] = 2 ** k
+        at += 1 if kind % 2 else 2
+    return rows

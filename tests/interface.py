@@ -3,7 +3,7 @@
 A later module adds its row to INTERFACE, and a call of each of its functions to CALLS.
 """
 
-from wordsquares import forms, pieces, splits
+from wordsquares import alike, counts, forms, leading, parting, pieces, plain, relations, roads, splits, symbols
 
 INTERFACE = {
     "wordsquares.forms": {
@@ -20,11 +20,47 @@ INTERFACE = {
         "pieces_at": "width form", "split": "width form", "is_split": "width form value",
         "pieces_of": "form", "scales_of": "form", "fewest_twos": "form",
     },
+    "wordsquares.symbols": {
+        "signs_of": "pieces", "chains_of": "pieces", "ways_of": "pieces", "symbol_of": "pieces size",
+        "symbol": "form", "is_symbol": "value", "pieces_of_symbol": "value", "plain_pieces": "form",
+    },
+    "wordsquares.plain": {
+        "plain_at": "width form", "how_many_classes": "width size", "class_at": "width size number",
+        "class_number": "width form",
+    },
+    "wordsquares.alike": {
+        "are_alike": "one other", "alike_at": "width one other", "parting_width": "one other",
+        "grouped": "forms", "grouped_at": "width forms",
+    },
+    "wordsquares.parting": {
+        "parting_sign": "one other", "parting_word": "one other", "is_parting_word": "one other value",
+        "equal_counts": "width one other", "low_scales": "width form",
+    },
+    "wordsquares.relations": {
+        "squares_turned": "low one high other number", "square_beside_pair": "low one high kind",
+        "pair_beside_square": "low kind high one", "pairs_turned": "scale",
+    },
+    "wordsquares.roads": {
+        "exchanged": "pieces", "road": "one other", "is_road": "one other value",
+    },
+    "wordsquares.leading": {
+        "change_of_steps": "width size steps", "steps_of": "width change",
+        "is_leading": "width one other value", "leading_change": "width one other",
+        "plain_change": "width form", "all_leading": "width one other",
+    },
+    "wordsquares.counts": {
+        "how_often": "width form word", "all_counts": "width form", "counts_along": "form number many",
+        "odd_noughts": "width form",
+    },
 }
 
 
 def calls():
     """The list of the tuples (function, arguments, result), made anew each time."""
+    return calls_of_pieces() + calls_of_symbols() + calls_of_alike_forms() + calls_of_changes() + calls_of_counts()
+
+
+def calls_of_pieces():
     form, change = [[1, 2], [2, 5]], [[1, 3], [0, -1]]
     return [
         (forms.is_form, {"value": form}, True),
@@ -50,4 +86,72 @@ def calls():
         (splits.pieces_of, {"form": [[6, 3], [3, 10]]}, [(0, 2)]),
         (splits.scales_of, {"form": [[4, 2, 0], [2, 6, 4], [0, 4, 12]]}, [(1, 2, True), (2, 1, True)]),
         (splits.fewest_twos, {"form": [[0, 2], [2, 0]]}, 2),
+    ]
+
+
+def calls_of_symbols():
+    some = [(0, 3), (1, 5), (3, 7)]
+    value = ([(0, 1, True, 1), (1, 1, True, 1), (3, 1, True, 1)], [(0, 4), (3, 7)], 1)
+    return [
+        (symbols.signs_of, {"pieces": some}, [(0, 1, True, -1), (1, 1, True, -1), (3, 1, True, 1)]),
+        (symbols.chains_of, {"pieces": some}, [(0, 0), (3, 7)]),
+        (symbols.ways_of, {"pieces": [(0, 0), (1, 2), (3, 0)]}, [(0, 0), (1, 1), (3, 3)]),
+        (symbols.symbol_of, {"pieces": some, "size": 4}, value),
+        (symbols.symbol, {"form": [[0, 1], [1, 0]]}, ([(0, 2, False, 1)], [], 0)),
+        (symbols.is_symbol, {"value": value}, True),
+        (symbols.pieces_of_symbol, {"value": value}, [(0, 3), (1, 1), (3, 3)]),
+        (symbols.plain_pieces, {"form": [[2, 1, 0], [1, 2, 0], [0, 0, 6]]}, [(0, 0), (1, 7)]),
+        (plain.plain_at, {"width": 3, "form": [[3, 0, 0], [0, 10, 0], [0, 0, 56]]}, [(0, 3), (1, 1)]),
+        (plain.how_many_classes, {"width": 2, "size": 3}, 16),
+        (plain.class_at, {"width": 2, "size": 2, "number": 4}, [(0, 1), (0, 3)]),
+        (plain.class_number, {"width": 2, "form": [[3, 0], [0, 1]]}, 4),
+    ]
+
+
+def calls_of_alike_forms():
+    two, three, pair = [[1, 0], [0, 1]], [[3, 0], [0, 3]], [[0, 1], [1, 0]]
+    return [
+        (alike.are_alike, {"one": two, "other": [[5, 0], [0, 5]]}, True),
+        (alike.alike_at, {"width": 2, "one": two, "other": three}, False),
+        (alike.parting_width, {"one": two, "other": three}, 2),
+        (alike.grouped, {"forms": [two, pair, [[5, 0], [0, 5]], [[2, 1], [1, 2]]]}, [[0, 2], [1], [3]]),
+        (alike.grouped_at, {"width": 1, "forms": [two, pair, three, [[2, 1], [1, 2]]]}, [[0, 2], [1, 3]]),
+        (parting.parting_sign, {"one": two, "other": three}, ("sum", 0, 2, 6)),
+        (parting.parting_word, {"one": two, "other": pair}, (1, 0, 2, 4)),
+        (parting.is_parting_word, {"one": two, "other": pair, "value": (1, 1, 2, 0)}, True),
+        (parting.equal_counts, {"width": 2, "one": two, "other": three}, False),
+        (parting.low_scales, {"width": 4, "form": [[1, 2], [2, 6]]}, [(0, 1), (1, 1)]),
+    ]
+
+
+def calls_of_changes():
+    low, high, turned = [[1, 0], [0, 2]], [[3, 0], [0, 6]], [[1, -2], [1, 1]]
+    one, other = [(0, 1), (1, 1)], [(0, 3), (1, 3)]
+    return [
+        (relations.squares_turned, {"low": 0, "one": 1, "high": 1, "other": 1, "number": 1}, (turned, 3, 3)),
+        (relations.square_beside_pair, {"low": 0, "one": 1, "high": 1, "kind": 0},
+         ([[1, -2, -2], [1, 1, 0], [1, 0, 1]], [[5, 0, 0], [0, 4, 6], [0, 6, 4]])),
+        (relations.pair_beside_square, {"low": 0, "kind": 0, "high": 1, "one": 1},
+         ([[1, 0, -2], [0, 1, -2], [1, 1, 1]], [[2, 3, 0], [3, 2, 0], [0, 0, 10]])),
+        (relations.pairs_turned, {"scale": 1},
+         ([[1, 0, -2, 0], [0, 1, 1, 0], [1, 0, 0, 1], [0, 0, 3, -2]],
+          [[8, 2, 0, 0], [2, 4, 0, 0], [0, 0, 48, -18], [0, 0, -18, 12]])),
+        (roads.exchanged, {"pieces": [(0, 0), (1, 1)]}, [[(0, 2), (1, 5)]]),
+        (roads.road, {"one": one, "other": other}, [one[:], other[:]]),
+        (roads.is_road, {"one": one, "other": other, "value": [one[:], other[:]]}, True),
+        (leading.change_of_steps, {"width": 3, "size": 2, "steps": [("add", 0, 1, 2), ("times", 1, 3)]}, [[1, 6], [0, 3]]),
+        (leading.steps_of, {"width": 3, "change": [[3, 0], [8, 1]]}, [("times", 0, 3)]),
+        (leading.is_leading, {"width": 9, "one": low, "other": high, "value": turned}, True),
+        (leading.leading_change, {"width": 3, "one": low, "other": high}, [[3, 6], [7, 1]]),
+        (leading.plain_change, {"width": 3, "form": high}, ([(0, 1), (1, 1)], [[1, 2], [1, 3]])),
+        (leading.all_leading, {"width": 3, "one": [[1]], "other": [[9]]}, [[[1]], [[3]], [[5]], [[7]]]),
+    ]
+
+
+def calls_of_counts():
+    return [
+        (counts.how_often, {"width": 3, "form": [[1]], "word": 4}, 2),
+        (counts.all_counts, {"width": 2, "form": [[1, 0], [0, 1]]}, [4, 8, 4, 0]),
+        (counts.counts_along, {"form": [[1]], "number": 4, "many": 6}, [1, 2, 2, 4, 8, 8]),
+        (counts.odd_noughts, {"width": 3, "form": [[0, 1], [1, 0]]}, 16),
     ]

@@ -6,6 +6,7 @@ import unittest
 from copy import deepcopy
 
 from tests.interface import INTERFACE, calls
+from wordsquares import alike
 
 
 def lists_in(value):
@@ -96,11 +97,18 @@ class Calls(unittest.TestCase):
         row = [0, 0]
         form = [row, row]
         for function, arguments, _ in calls():
-            if set(arguments) == {"one", "other"} and function.__module__ == "wordsquares.forms":
+            if {"one", "other"} <= set(arguments) and function.__module__ != "wordsquares.relations":
                 value = [[1, 2], [0, 1]] if function.__name__ == "joined" else form
-                found = lists_in(function(value, value))
+                if function.__module__ in ("wordsquares.pieces", "wordsquares.roads"):
+                    value = [(0, 1)]
+                found = lists_in(function(**{**arguments, "one": value, "other": value}))
                 self.assertEqual(len(found), len({id(item) for item in found}), function.__name__)
                 self.assertFalse([item for item in found if item is row or item is value])
+
+    def test_one_list_several_times_in_a_list_of_forms(self):
+        form = [[1, 0], [0, 3]]
+        for found in (alike.grouped([form, form, [[1, 0], [0, 1]], form]), alike.grouped_at(3, [form] * 4)):
+            self.assertEqual(len(lists_in(found)), len({id(item) for item in lists_in(found)}))
 
     def test_changing_a_result_has_no_effect(self):
         for function, arguments, result in calls():

@@ -21,6 +21,11 @@ LIBRARY = {
     },
     "collections": {"defaultdict"},
 }
+METHODS = set(
+    "append clear copy count endswith extend find get index insert isalnum isalpha isdigit islower isspace isupper items "
+    "join keys ljust lower lstrip partition pop remove replace reverse rfind rjust rpartition rsplit rstrip setdefault "
+    "split splitlines startswith strip update upper values zfill bit_length".split()
+)
 # Some of the words that are no names.
 WORDS = {
     "typing", "typing_extensions", "enum", "Enum", "Generic", "Protocol", "ABC", "namedtuple", "NamedTuple",
@@ -172,6 +177,26 @@ class Code(unittest.TestCase):
             for node in ast.walk(tree):
                 if isinstance(node, ast.Name) and hasattr(builtins, node.id):
                     self.assertIn(node.id, BUILTINS, (module, node.lineno))
+
+    def test_only_the_allowed_methods_are_called(self):
+        for module, _, tree in files():
+            for node in ast.walk(tree):
+                if isinstance(node, ast.Attribute):
+                    own = isinstance(node.value, ast.Name) and node.value.id == "self"
+                    self.assertTrue(own or node.attr in METHODS, (module, node.lineno))
+
+    def test_what_the_library_gives_is_iterated_at_once(self):
+        for module, _, tree in files():
+            imported = {
+                alias.name for node in tree.body if isinstance(node, ast.ImportFrom) and node.module in LIBRARY
+                for alias in node.names
+            }
+            right = {
+                id(node.iter) for node in ast.walk(tree) if isinstance(node, (ast.For, ast.comprehension))
+            }
+            for node in ast.walk(tree):
+                if isinstance(node, ast.Call) and isinstance(node.func, ast.Name) and node.func.id in imported:
+                    self.assertIn(id(node), right, (module, node.lineno))
 
     def test_no_name_is_that_of_a_builtin_an_import_or_a_barred_word(self):
         for module, _, tree in files():

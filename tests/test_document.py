@@ -2,9 +2,17 @@
 
 import unittest
 
+from wordsquares.alike import alike_at, are_alike, grouped, grouped_at, parting_width
+from wordsquares.counts import all_counts, counts_along, how_often, odd_noughts
 from wordsquares.forms import beside, changed, determinant, is_change, is_form, joined, moved, parting_words, table_of, undone, value_at
+from wordsquares.leading import all_leading, change_of_steps, is_leading, leading_change, plain_change, steps_of
+from wordsquares.parting import equal_counts, is_parting_word, low_scales, parting_sign, parting_word
 from wordsquares.pieces import cut, is_pieces, sum_of, times, together, unknowns_of
+from wordsquares.plain import class_at, class_number, how_many_classes, plain_at
+from wordsquares.relations import pair_beside_square, pairs_turned, square_beside_pair, squares_turned
+from wordsquares.roads import exchanged, is_road, road
 from wordsquares.splits import fewest_twos, is_split, pieces_at, pieces_of, scales_of, split
+from wordsquares.symbols import chains_of, is_symbol, pieces_of_symbol, plain_pieces, signs_of, symbol, symbol_of, ways_of
 
 
 class BehindPoint7(unittest.TestCase):
@@ -49,6 +57,107 @@ class BehindPoint13(unittest.TestCase):
         self.assertEqual(
             [is_split(5, [[1, 2], [2, 5]], split(5, [[1, 2], [2, 5]])), scales_of([[4, 2, 0], [2, 6, 4], [0, 4, 12]]), fewest_twos([[0, 2], [2, 0]]), fewest_twos([[0]])],
             [True, [(1, 2, True), (2, 1, True)], 2, None])
+
+
+class BehindPoint20(unittest.TestCase):
+
+    def test_examples(self):
+        some = [(0, 3), (1, 5), (3, 7)]
+        self.assertEqual(
+            [signs_of(some), chains_of(some), ways_of(some), ways_of([(0, 0), (1, 2), (3, 0)])],
+            [[(0, 1, True, -1), (1, 1, True, -1), (3, 1, True, 1)], [(0, 0), (3, 7)], [(0, 3)], [(0, 0), (1, 1), (3, 3)]])
+        self.assertEqual(
+            [symbol_of(some, 4), symbol_of([(0, 3), (1, 1), (3, 3)], 4) == symbol_of(some, 4), pieces_of_symbol(symbol_of(some, 3))],
+            [([(0, 1, True, 1), (1, 1, True, 1), (3, 1, True, 1)], [(0, 4), (3, 7)], 1), True, [(0, 3), (1, 1), (3, 3)]])
+        self.assertEqual(
+            [symbol([[0, 1], [1, 0]]), symbol([[0]]), symbol([[5, 0], [0, 5]]) == symbol([[1, 0], [0, 1]]), plain_pieces([[1, 0, 0], [0, 1, 0], [0, 0, 7]])],
+            [([(0, 2, False, 1)], [], 0), ([], [], 1), True, [(0, 0), (0, 1)]])
+        self.assertEqual(
+            [plain_pieces([[2, 1, 0], [1, 2, 0], [0, 0, 6]]), is_symbol(([(0, 1, True, 1)], [(0, 3)], 0)), is_symbol(([(0, 2, False, -1)], [], 0))],
+            [[(0, 0), (1, 7)], False, True])
+        self.assertEqual(
+            [plain_at(4, [[3, 0, 0], [0, 10, 0], [0, 0, 56]]), plain_at(3, [[3, 0, 0], [0, 10, 0], [0, 0, 56]]), plain_at(2, [[7, 0, 0], [0, 7, 0], [0, 0, 7]]), plain_at(1, [[2, 1], [1, 4]])],
+            [[(0, 3), (1, 1), (3, 1)], [(0, 3), (1, 1)], [(0, 1), (0, 2)], []])
+        self.assertEqual(
+            [[how_many_classes(width, size) for width in [1, 2, 3]] for size in [1, 2, 3]],
+            [[2, 4, 8], [2, 10, 28], [2, 16, 62]])
+        self.assertEqual(
+            [class_at(2, 2, 4), class_number(2, [[3, 0], [0, 1]]), class_at(3, 1, 7), class_number(3, [[0]])],
+            [[(0, 1), (0, 3)], 4, [(2, 1)], 0])
+
+
+class BehindPoint26(unittest.TestCase):
+
+    def test_examples(self):
+        two, pair, twist = [[1, 0], [0, 1]], [[0, 1], [1, 0]], [[2, 1], [1, 2]]
+        top, low = [[0, 1, 0], [1, 0, 0], [0, 0, 2]], [[0, 0, 0], [0, 0, 0], [0, 0, 2]]
+        self.assertEqual(
+            [are_alike(two, [[5, 0], [0, 5]]), are_alike(two, [[3, 0], [0, 3]]), alike_at(1, two, [[3, 0], [0, 3]]), alike_at(2, two, [[3, 0], [0, 3]]), are_alike([[1, 0], [0, 2]], [[3, 0], [0, 6]])],
+            [True, False, True, False, True])
+        self.assertEqual(
+            [parting_width(two, [[3, 0], [0, 3]]), parting_width(two, pair), parting_width(pair, twist), parting_width(top, low), parting_width(two, two)],
+            [2, 1, 2, 2, None])
+        self.assertEqual(
+            [grouped([two, pair, [[5, 0], [0, 5]], twist]), grouped_at(1, [two, pair, [[5, 0], [0, 5]], twist]), grouped([])],
+            [[[0, 2], [1], [3]], [[0, 2], [1, 3]], []])
+        self.assertEqual(
+            [parting_sign(two, [[3, 0], [0, 3]]), parting_sign(pair, twist), parting_sign(two, pair), parting_sign([[1, 0], [0, 2]], [[1, 0], [0, 4]])],
+            [('sum', 0, 2, 6), ('sign', 0, 1, -1), ('odd', 0, True, False), ('unknowns', 1, 1, 0)])
+        self.assertEqual(
+            [parting_word(two, [[3, 0], [0, 3]]), parting_word(two, pair), parting_word(top, low), is_parting_word(two, pair, (1, 1, 2, 0)), is_parting_word(two, pair, (1, 1, 2, 1))],
+            [(2, 1, 8, 0), (1, 0, 2, 4), (3, 0, 160, 256), True, False])
+        self.assertEqual(
+            [equal_counts(2, top, low), low_scales(2, top), low_scales(2, low), equal_counts(3, top, low), low_scales(4, [[1, 2], [2, 6]])],
+            [True, [(0, 2)], [], False, [(0, 1), (1, 1)]])
+        lone, mate = [[1, 0, 0, 0, 0], [0, 2, 0, 0, 0], [0, 0, 2, 0, 0], [0, 0, 0, 2, 0], [0, 0, 0, 0, 4]], [[1, 0, 0, 0, 0], [0, 1, 0, 0, 0], [0, 0, 2, 0, 0], [0, 0, 0, 4, 0], [0, 0, 0, 0, 4]]
+        self.assertEqual(
+            [are_alike(lone, mate), parting_word(lone, mate), parting_width(lone, mate), parting_sign(lone, mate)],
+            [False, None, 2, ('unknowns', 0, 1, 2)])
+
+
+class BehindPoint33(unittest.TestCase):
+
+    def test_examples(self):
+        self.assertEqual(
+            [squares_turned(0, 1, 1, 1, 1), squares_turned(0, 1, 0, 3, 2), squares_turned(1, 5, 4, 7, 0)],
+            [([[1, -2], [1, 1]], 3, 3), ([[1, -6], [2, 1]], 13, 39), ([[1, 0], [0, 5]], 5, 175)])
+        self.assertEqual(
+            square_beside_pair(0, 1, 1, 0),
+            ([[1, -2, -2], [1, 1, 0], [1, 0, 1]], [[5, 0, 0], [0, 4, 6], [0, 6, 4]]))
+        self.assertEqual(
+            pair_beside_square(0, 0, 1, 1),
+            ([[1, 0, -2], [0, 1, -2], [1, 1, 1]], [[2, 3, 0], [3, 2, 0], [0, 0, 10]]))
+        self.assertEqual(
+            pairs_turned(0)[1],
+            [[4, 1, 0, 0], [1, 2, 0, 0], [0, 0, 24, -9], [0, 0, -9, 6]])
+        self.assertEqual(
+            [exchanged([(0, 1), (1, 1)]), exchanged([(0, 1), (0, 1)]), exchanged([(0, 0), (0, 1)]), exchanged([(2, 2), (2, 2)]), exchanged([(0, 7)])],
+            [[[(0, 3), (1, 3)]], [[(0, 5), (0, 5)]], [[(0, 1), (0, 1), (0, 7)], [(0, 1), (0, 3), (0, 5)], [(0, 5), (0, 5), (0, 7)]], [[(2, 0), (2, 0)]], []])
+        self.assertEqual(
+            [road([(0, 1), (1, 1)], [(0, 3), (1, 3)]), road([(0, 1)], [(0, 3)]), road([], []), is_road([(0, 1)], [(0, 1)], [[(0, 1)]])],
+            [[[(0, 1), (1, 1)], [(0, 3), (1, 3)]], None, [[]], True])
+        self.assertEqual(
+            [change_of_steps(3, 2, [("add", 0, 1, 2), ("times", 1, 3)]), change_of_steps(3, 1, []), change_of_steps(3, 2, steps_of(3, [[3, 2], [8, -1]]))],
+            [[[1, 6], [0, 3]], [[1]], [[3, 2], [0, 7]]])
+        low, high = [[1, 0], [0, 2]], [[3, 0], [0, 6]]
+        self.assertEqual(
+            [is_leading(9, low, high, [[1, -2], [1, 1]]), is_leading(9, low, high, [[1, 0], [0, 1]]), is_leading(9, low, high, leading_change(9, low, high))],
+            [True, False, True])
+        self.assertEqual(
+            [plain_change(9, high)[0], plain_change(9, [[0, 0], [0, 0]])[0], all_leading(3, [[1]], [[9]]), all_leading(2, [[1]], [[3]])],
+            [[(0, 1), (1, 1)], [], [[[1]], [[3]], [[5]], [[7]]], []])
+
+
+class BehindPoint39(unittest.TestCase):
+
+    def test_examples(self):
+        one, two, pair = [[1]], [[1, 0], [0, 1]], [[0, 1], [1, 0]]
+        self.assertEqual(
+            [how_often(3, one, 1), all_counts(3, one), all_counts(2, two), all_counts(2, pair), how_often(64, one, 1)],
+            [4, [2, 4, 0, 0, 2, 0, 0, 0], [4, 8, 4, 0], [12, 0, 4, 0], 4])
+        self.assertEqual(
+            [counts_along(one, 4, 6), counts_along(pair, 3, 2), odd_noughts(3, pair), odd_noughts(2, two), odd_noughts(1, [[0]])],
+            [[1, 2, 2, 4, 8, 8], [0, 0], 16, 0, 1])
 
 
 if __name__ == "__main__":

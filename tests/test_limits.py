@@ -3,8 +3,8 @@
 import time
 import unittest
 
-from tests.helpers import Numbers
-from wordsquares import forms, pieces, splits
+from tests.helpers import Numbers, two_sums
+from wordsquares import alike, counts, forms, leading, parting, pieces, plain, relations, roads, splits, symbols
 
 GREAT = 10 ** 30 - 1
 SECONDS = 5
@@ -57,6 +57,95 @@ class Limits(unittest.TestCase):
             self.assertEqual(splits.split(64, form)[0], splits.pieces_at(64, form))
             self.assertEqual(splits.scales_of(form), splits.scales_of(forms.changed(form, change)))
             self.assertIsNotNone(splits.fewest_twos(form))
+
+    def great_pieces(self):
+        """Pieces of six unknowns of which many others have the scales, and scales up to 1,000."""
+        for scales in (range(6), range(0, 12, 2), range(0, 18, 3), (0, 0, 1, 1, 2, 2), (0,) * 6, (0, 0, 0, 2, 4, 5)):
+            for more in (0, 58 - scales[-1], 1000 - scales[-1]):
+                yield [(k + more, 7) for k in scales], [(k + more, 1) for k in scales]
+        for scales in ((0, 1, 2), (0, 0, 0), (0, 2, 4)):
+            for more in (0, 1000 - scales[-1]):
+                yield [(k + more, 2) for k in scales], [(k + more, 0) for k in scales]
+
+    def test_symbols(self):
+        for one, other in self.great_pieces():
+            value = symbols.symbol_of(one, 6)
+            self.assertTrue(symbols.is_symbol(value))
+            self.assertLessEqual(symbols.pieces_of_symbol(value), one)
+            self.assertEqual(symbols.symbol(pieces.sum_of(one, 6)), value)
+            scales, chains, noughts = value
+            self.assertFalse(symbols.is_symbol((scales, [(k, (total + 1) % 8) for k, total in chains] or [(0, 1)], noughts)))
+            self.assertEqual(pieces.unknowns_of(symbols.plain_pieces(pieces.sum_of(other, 6))), 6)
+
+    def test_plain_pieces(self):
+        for one, _ in self.great_pieces():
+            for width in (1, 5, 6, 7, 12, 61, 64):
+                plain.plain_at(width, pieces.sum_of(one, 6))
+        for seed in range(10):
+            form, _, _ = self.great_rows(seed)
+            plain.plain_at(64, form)
+        for size in (1, 2, 3):
+            for width in (1, 2, 3, 4):
+                many = plain.how_many_classes(width, size)
+                self.assertEqual(plain.class_number(width, pieces.sum_of(plain.class_at(width, size, many - 1), size)), many - 1)
+        self.assertEqual(plain.how_many_classes(64, 1), 252)
+        self.assertEqual(plain.class_number(64, [[-7 << 60]]), 240 + 1)
+
+    def test_alike_and_parting(self):
+        for one, other in list(self.great_pieces()) + [([(58, 1)] * 6, [(58, 5)] * 6)]:
+            low, high = pieces.sum_of(one, 6), pieces.sum_of(other, 6)
+            self.assertEqual(alike.are_alike(low, high), alike.parting_width(low, high) is None)
+            self.assertEqual(alike.are_alike(low, high), parting.parting_sign(low, high) is None)
+            alike.alike_at(64, low, high)
+            parting.equal_counts(64, low, high)
+            parting.low_scales(64, low)
+            found = parting.parting_word(low, high)
+            if found is not None and found[0] <= 64:
+                self.assertTrue(parting.is_parting_word(low, high, found))
+        some = [pieces.sum_of(one, 6) for both in self.great_pieces() for one in both]
+        alike.grouped(some)
+        alike.grouped_at(64, some)
+        for one, other in two_sums(60, 1, 58):
+            alike.parting_width(one, other)
+            parting.parting_word(one, other)
+
+    def test_counts(self):
+        for seed in range(4):
+            form, _, numbers = self.great_rows(seed)
+            for word in (0, 1, 2 ** 63, numbers.below(2 ** 64)):
+                counts.how_often(64, form, word)
+            counts.odd_noughts(64, form)
+            self.assertEqual(len(counts.counts_along(form, -GREAT, 64)), 64)
+            self.assertEqual(sum(counts.all_counts(10, form)), 2 ** 60)
+        for one, _ in self.great_pieces():
+            counts.how_often(64, pieces.sum_of(one, 6), 0)
+            counts.counts_along(pieces.sum_of(one, 6), 0, 64)
+
+    def test_relations(self):
+        for low in (0, 32, 64):
+            relations.squares_turned(low, GREAT, 64, -GREAT, GREAT - 1)
+            relations.square_beside_pair(low, -GREAT, 64, 2)
+            relations.pairs_turned(low)
+        relations.pair_beside_square(0, 2, 64, GREAT)
+
+    def test_roads(self):
+        for one, other in self.great_pieces():
+            first = symbols.pieces_of_symbol(symbols.symbol_of(one, 6))
+            self.assertTrue(roads.is_road(one, first, roads.road(one, first)))
+            self.assertEqual(roads.road(one, other) is None, symbols.symbol_of(one, 6) != symbols.symbol_of(other, 6))
+            roads.exchanged(one)
+
+    def test_leading(self):
+        for seed in range(10):
+            form, change, _ = self.great_rows(seed)
+            self.assertLessEqual(len(leading.steps_of(64, change)), 42)
+            self.assertEqual(leading.plain_change(64, form)[0], plain.plain_at(64, form))
+            other = forms.changed(form, change)
+            self.assertTrue(leading.is_leading(64, form, other, leading.leading_change(64, form, other)))
+        for one, _ in self.great_pieces():
+            leading.plain_change(64, pieces.sum_of(one, 6))
+            leading.plain_change(7, pieces.sum_of(one, 6))
+        self.assertEqual(len(leading.all_leading(3, [[0, 0], [0, 0]], [[8, 4], [4, 0]])), 1536)
 
 
 if __name__ == "__main__":

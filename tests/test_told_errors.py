@@ -3,9 +3,10 @@
 import unittest
 
 from tests.helpers import Numbers
-from wordsquares import forms, pieces, splits
+from wordsquares import alike, counts, forms, leading, parting, pieces, plain, relations, roads, splits, symbols
 from wordsquares.errors import (
-    FormError, InvalidChange, InvalidForm, InvalidNumber, InvalidPieces, InvalidWidth, InvalidWords, Unlike,
+    FormError, InvalidChange, InvalidForm, InvalidNumber, InvalidPieces, InvalidSymbol, InvalidWidth, InvalidWord,
+    InvalidWords, Unlike,
 )
 
 UNIT = [[1, 0], [0, 1]]
@@ -79,10 +80,68 @@ def no_factors():
     return others() + [0, [], [1], (1,), [(0, 1)]]
 
 
+def no_words_of(width):
+    return others() + [-1, 2 ** width, 2 ** width + 1, 10 ** 29, -10 ** 29, [], [0], (0,), [[0]]]
+
+
+def no_numbers():
+    return others() + [[], [1], (1,), [(0, 1)], FORM]
+
+
+def no_symbols():
+    """Many more of them are made in the tests of symbols."""
+    return others() + [
+        0, 1, [], FORM, PIECES, ([], [], 0), ([], [], 7), ([], [], True), ([], []), [[], [], 1], ([], [], 1, 1), ((), (), 1),
+        ([(0, 1, True, 1)], [(0, 3)], 0), ([(0, 1, True, 1)], [(0, 1)], False), ([(0, 1, 1, 1)], [(0, 1)], 0),
+        ([(0, 1, True, True)], [(0, 1)], 0), ([(0, True, True, 1)], [(0, 1)], 0), ([(False, 1, True, 1)], [(0, 1)], 0),
+        ([(0, 1, True, 1)], [(0, True)], 0), ([(0, 1, True, 1)], [(False, 1)], 0), ([(0, 1, True, 1)], [[0, 1]], 0),
+        ([[0, 1, True, 1]], [(0, 1)], 0), ([(0, 1, True, -1)], [(0, 1)], 0), ([(0, 1, True, 0)], [(0, 1)], 0),
+        ([(0, 2, False, 1), (0, 2, False, 1)], [], 0), ([(1, 2, False, 1), (0, 2, False, 1)], [], 0),
+        ([(0, 1, True, 1)], [], 0), ([(0, 1, True, 1)], [(0, 9)], 0), ([(0, 1, True, 1)], [(0, 1)], -1),
+        ([(0, 2, False, 1)], [(0, 0)], 0), ([(0, 1, False, 1)], [], 0), ([(-1, 2, False, 1)], [], 0),
+        ([(0, 2, False, 1), (1, 2, False, 1), (2, 2, False, 1), (3, 2, False, 1)], [], 0),
+        ([(0, 1, True, 1), (1, 1, True, -1)], [(0, 4)], 0), ([(0, 1, True, 1), (1, 1, True, 1)], [(0, 2), (1, 1)], 0),
+    ]
+
+
+def no_scales(least):
+    """What is no count from a least one to 64."""
+    return others() + [-1, least - 1, 65, 10 ** 29, [least], (least,), [], str(least)]
+
+
+def no_odd_numbers():
+    return others() + [0, 2, -2, 10 ** 29, [1], (1,), []]
+
+
+def no_pair_kinds():
+    return others() + [1, 3, -2, 4, 10 ** 29, [0], (2,), [], "0"]
+
+
+def no_steps(width, size):
+    """What is no list of steps."""
+    top = 2 ** width
+    wrong = [
+        None, 0, "add", (), [], {}, ("add",), ("times",), ("add", 0), ("add", 0, 1), ("times", 0), ("times", 0, 1, 1),
+        ("add", 0, 1, 1, 1), ["add", 0, 1, 1], ["times", 0, 1], ("add", 0, 0, 1), ("add", 1, 1, 1), ("add", 0, size, 1),
+        ("add", size, 0, 1), ("add", -1, 0, 1), ("add", 0, -1, 1), ("add", 0, 1, -1), ("add", 0, 1, top), ("add", 0, 1, 10 ** 29),
+        ("add", 0, 1, True), ("add", 0, True, 1), ("add", False, 1, 1), ("add", 0, 1, None), ("add", "0", 1, 1), ("add", 0, [1], 1),
+        ("times", 0, 0), ("times", 0, 2), ("times", 0, -1), ("times", 0, top + 1), ("times", size, 1), ("times", -1, 1),
+        ("times", True, 1), ("times", 0, True), ("times", 0, None), ("times", None, 1), ("Add", 0, 1, 1), ("TIMES", 0, 1),
+        ("add", 0, 1, "1"), (None, 0, 1, 1), (["add"], 0, 1, 1), ("times", (0,), 1), ("", 0, 1), ("add", 0, 1, (1,)),
+    ]
+    right = ("times", 0, 1)
+    lists = [[item] for item in wrong] + [[right, item] for item in wrong] + [[item, right] for item in wrong[::3]]
+    return [item for item in others() if item != []] + [0, 1, "add", ("add", 0, 1, 1), (right,), ((right,),), {0: right}] + lists
+
+
 SIX = [[int(i == j) for j in range(6)] for i in range(6)]
 FIVE = [row[:5] for row in SIX[:5]]
 THREE = [row[:3] for row in SIX[:3]]
 PIECES = [(0, 1), (0, 2)]
+WIDTH = ("width", 3, [(InvalidWidth, no_widths())])
+FORM_TOLD = ("form", FORM, [(InvalidForm, no_forms())])
+ONE = ("one", FORM, [(InvalidForm, no_forms())])
+OTHER = ("other", [[1, 4], [4, 5]], [(InvalidForm, no_forms()), (Unlike, [[[1]], THREE, SIX])])
 
 
 def arguments_told():
@@ -90,10 +149,11 @@ def arguments_told():
 
     Each parameter is a tuple (name, right value, list of tuples (error, wrong values)).
     """
-    width = ("width", 3, [(InvalidWidth, no_widths())])
-    form = ("form", FORM, [(InvalidForm, no_forms())])
-    one = ("one", FORM, [(InvalidForm, no_forms())])
-    other = ("other", [[1, 4], [4, 5]], [(InvalidForm, no_forms()), (Unlike, [[[1]], THREE, SIX])])
+    return told_of_forms_and_pieces() + told_of_symbols() + told_of_two_forms() + told_of_changes() + told_of_counts()
+
+
+def told_of_forms_and_pieces():
+    width, form, one, other = WIDTH, FORM_TOLD, ONE, OTHER
     change = ("change", UNIT, [(InvalidChange, no_changes())])
     words = ("words", [7, 2], [(InvalidWords, no_words(3, 2))])
     some = ("pieces", PIECES, [(InvalidPieces, no_pieces())])
@@ -125,6 +185,80 @@ def arguments_told():
         (splits.pieces_of, [form]),
         (splits.scales_of, [form]),
         (splits.fewest_twos, [form]),
+    ]
+
+
+def told_of_symbols():
+    some = ("pieces", PIECES, [(InvalidPieces, no_pieces())])
+    size = ("size", 2, [(InvalidNumber, no_sizes(1))])
+    return [
+        (symbols.signs_of, [some]),
+        (symbols.chains_of, [some]),
+        (symbols.ways_of, [some]),
+        (symbols.symbol_of, [some, ("size", 3, [(InvalidNumber, no_sizes(3))])]),
+        (symbols.symbol, [FORM_TOLD]),
+        (symbols.pieces_of_symbol, [("value", ([], [], 1), [(InvalidSymbol, no_symbols())])]),
+        (symbols.plain_pieces, [FORM_TOLD]),
+        (plain.plain_at, [WIDTH, FORM_TOLD]),
+        (plain.how_many_classes, [WIDTH, size]),
+        (plain.class_at, [WIDTH, size, ("number", 27, [(InvalidNumber, no_numbers() + [-1, 28, 29, 10 ** 29, -10 ** 29])])]),
+        (plain.class_number, [WIDTH, FORM_TOLD]),
+    ]
+
+
+def told_of_two_forms():
+    value = ("value", (1, 1, 2, 0), [])
+    lists = [item for item in others() if not isinstance(item, list)] + [0, 1, 10 ** 29, (UNIT,), "forms"]
+    listed = ("forms", [UNIT, FORM], [(InvalidForm, lists)])
+    return [
+        (alike.are_alike, [ONE, OTHER]),
+        (alike.alike_at, [WIDTH, ONE, OTHER]),
+        (alike.parting_width, [ONE, OTHER]),
+        (alike.grouped, [listed]),
+        (alike.grouped_at, [WIDTH, listed]),
+        (parting.parting_sign, [ONE, OTHER]),
+        (parting.parting_word, [ONE, OTHER]),
+        (parting.is_parting_word, [ONE, OTHER, value]),
+        (parting.equal_counts, [WIDTH, ONE, OTHER]),
+        (parting.low_scales, [WIDTH, FORM_TOLD]),
+    ]
+
+
+def told_of_changes():
+    low, one = ("low", 2, [(InvalidNumber, no_scales(0))]), ("one", -3, [(InvalidNumber, no_odd_numbers())])
+    high, kind = ("high", 2, [(InvalidNumber, no_scales(2))]), ("kind", 2, [(InvalidNumber, no_pair_kinds())])
+    above = ("high", 3, [(InvalidNumber, no_scales(3) + [2, 1, 0])])
+    odd = ("other", 5, [(InvalidNumber, no_odd_numbers())])
+    number = ("number", -4, [(InvalidNumber, no_numbers() + [1, -1, 3, 10 ** 29 + 1])])
+    here, there = [(name, PIECES, [(InvalidPieces, no_pieces())]) for name in ("one", "other")]
+    value = ("value", [PIECES], [])
+    wrong_forms = [(InvalidForm, no_forms()), (Unlike, [[[1]], THREE, SIX])]
+    return [
+        (relations.squares_turned, [low, one, high, odd, number]),
+        (relations.square_beside_pair, [low, one, high, kind]),
+        (relations.pair_beside_square, [low, kind, above, one]),
+        (relations.pairs_turned, [("scale", 64, [(InvalidNumber, no_scales(0))])]),
+        (roads.exchanged, [("pieces", PIECES, [(InvalidPieces, no_pieces())])]),
+        (roads.road, [here, there]),
+        (roads.is_road, [here, there, value]),
+        (leading.change_of_steps, [
+            WIDTH, ("size", 2, [(InvalidNumber, no_sizes(1))]), ("steps", [], [(InvalidChange, no_steps(3, 2))])]),
+        (leading.steps_of, [WIDTH, ("change", UNIT, [(InvalidChange, no_changes())])]),
+        (leading.is_leading, [WIDTH, ONE, OTHER, ("value", UNIT, [])]),
+        (leading.leading_change, [WIDTH, ONE, ("other", UNIT, wrong_forms + [(Unlike, [[[0, 1], [1, 0]], [[3, 0], [0, 3]]])])]),
+        (leading.plain_change, [WIDTH, FORM_TOLD]),
+        (leading.all_leading, [WIDTH, ONE, OTHER]),
+    ]
+
+
+def told_of_counts():
+    whole = ("number", -4, [(InvalidNumber, no_numbers())])
+    many = ("many", 64, [(InvalidNumber, no_numbers() + [0, -1, 65, 10 ** 29])])
+    return [
+        (counts.how_often, [WIDTH, FORM_TOLD, ("word", 7, [(InvalidWord, no_words_of(3))])]),
+        (counts.all_counts, [WIDTH, FORM_TOLD]),
+        (counts.counts_along, [FORM_TOLD, whole, many]),
+        (counts.odd_noughts, [WIDTH, FORM_TOLD]),
     ]
 
 
@@ -163,6 +297,30 @@ class ToldErrors(unittest.TestCase):
                         for behind, right, told in parameters[at + 1:]:
                             values[behind] = told[0][1][0] if told else None
                         self.assert_told(error, wrong, function, values, False)
+
+    def test_bounds_are_those_of_the_other_arguments(self):
+        for width in (1, 2, 63, 64):
+            for wrong in no_words_of(width):
+                self.assert_told(InvalidWord, wrong, counts.how_often, {"w": width, "f": FORM, "x": wrong}, False)
+            counts.how_often(width, FORM, 2 ** width - 1)
+        for size in range(1, 7):
+            some = [(0, 1)] * size
+            for wrong in no_sizes(size):
+                self.assert_told(InvalidNumber, wrong, symbols.symbol_of, {"pieces": some, "size": wrong}, True)
+            for wrong in no_steps(3, size):
+                values = {"width": 3, "size": size, "steps": wrong}
+                self.assert_told(InvalidChange, wrong, leading.change_of_steps, values, True)
+        for low in (0, 1, 63, 64):
+            relations.squares_turned(low, 1, low, 1, 0)
+            for wrong in no_scales(low):
+                self.assert_told(InvalidNumber, wrong, relations.squares_turned, {"a": low, "b": 1, "c": wrong, "d": 1, "e": 0}, False)
+                self.assert_told(InvalidNumber, wrong, relations.square_beside_pair, {"a": low, "b": 1, "c": wrong, "d": 0}, False)
+            for wrong in no_scales(low + 1):
+                self.assert_told(InvalidNumber, wrong, relations.pair_beside_square, {"a": low, "b": 0, "c": wrong, "d": 1}, False)
+
+    def test_any_number_where_the_scales_are_unlike(self):
+        for number in (-10 ** 29, -3, -1, 0, 1, 2, 10 ** 29 + 1):
+            self.assertEqual(relations.squares_turned(0, 1, 1, 1, number)[1], 1 + 2 * number * number)
 
     def test_wrong_words_are_told_by_their_own_width_and_size(self):
         numbers = Numbers(3)
@@ -239,6 +397,23 @@ class Questions(unittest.TestCase):
             self.assertIs(pieces.is_pieces(value), False, value)
         for value in ([], PIECES, [(0, 1)] * 6, [(0, 0)] * 3, [(0, 2), (1000, 0)], [(0, 7), (1, 1)], [(5, 0), (5, 1), (5, 2)]):
             self.assertIs(pieces.is_pieces(value), True, value)
+
+    def test_is_symbol(self):
+        for value in no_symbols():
+            self.assertIs(symbols.is_symbol(value), False, value)
+        for value in (([], [], 1), ([(0, 2, False, -1)], [], 4), ([(7, 1, True, -1)], [(7, 5)], 0), ([(7, 1, True, 1)], [(7, 7)], 5)):
+            self.assertIs(symbols.is_symbol(value), True, value)
+
+    def test_any_value_is_judged_in_the_last_place(self):
+        anything = others() + no_pieces() + no_changes() + no_steps(3, 2) + no_symbols() + [PIECES, [None, PIECES], (1, 1, 2)]
+        for value in anything:
+            self.assertIs(parting.is_parting_word(FORM, UNIT, value), False, value)
+            self.assertIs(roads.is_road(PIECES, PIECES, value), False, value)
+            self.assertIs(roads.is_road(PIECES, PIECES, [value]), value == PIECES, value)
+            self.assertIs(roads.is_road([], [], value), value == [[]] and isinstance(value, list), value)
+            self.assertIs(leading.is_leading(3, FORM, UNIT, [value]), False, value)
+        for value in no_changes() + [[[1]], THREE, SIX]:
+            self.assertIs(leading.is_leading(3, [[0, 0], [0, 0]], [[0, 0], [0, 0]], value), False, value)
 
     def test_is_split_takes_any_value(self):
         for value in others() + no_pieces() + no_changes():

@@ -1,6 +1,6 @@
 """What whole numbers, widths and words are, and the errors that tell what is none."""
 
-from wordsquares.errors import InvalidWidth, InvalidWords
+from wordsquares.errors import InvalidNumber, InvalidWidth, InvalidWord, InvalidWords
 
 MOST_UNKNOWNS = 6
 GREATEST_WIDTH = 64
@@ -14,6 +14,11 @@ def is_whole(value):
 def is_count(value):
     """Whether a value is a whole number of at least 0."""
     return is_whole(value) and value >= 0
+
+
+def is_odd(value):
+    """Whether a value is an odd whole number."""
+    return is_whole(value) and value % 2 == 1
 
 
 def is_size(value):
@@ -42,6 +47,18 @@ def check_width(width):
     """Refuse what is no width."""
     if not is_width(width):
         raise InvalidWidth(width)
+
+
+def check_size(size):
+    """Refuse what is no number of unknowns that a form can have."""
+    if not is_size(size):
+        raise InvalidNumber(size)
+
+
+def check_word(width, word):
+    """Refuse what is no word of a width."""
+    if not is_word(width, word):
+        raise InvalidWord(word)
 
 
 def check_words(width, words, size):

@@ -76,12 +76,17 @@ def is_left_at(width, piece):
     return k < width if is_square_kind(kind) else k < width - 1
 
 
+def cut_pieces(width, pieces):
+    """What is left of pieces at any whole number from 1 on in the place of a width."""
+    # The kind 2 of a pair stays: where something is left of a pair it is cut by 4 at least.
+    return sorted([(k, kind % (1 << (width - k))) for k, kind in pieces if is_left_at(width, (k, kind))])
+
+
 def cut(width, pieces):
     """What is left of pieces at a width."""
     check_width(width)
     check_pieces(pieces)
-    # The kind 2 of a pair stays: where something is left of a pair it is cut by 4 at least.
-    return sorted([(k, kind % (1 << (width - k))) for k, kind in pieces if is_left_at(width, (k, kind))])
+    return cut_pieces(width, pieces)
 
 
 def times(pieces, number):

@@ -2,9 +2,10 @@
 
 from wordsquares.checks import check_width
 from wordsquares.forms import check_form, is_change
-from wordsquares.pieces import is_pieces, is_square_kind, rows_of_sum, size_of_piece, size_of_pieces
+from wordsquares.pieces import is_pieces, rows_of_sum, size_of_pieces
 from wordsquares.rows import changed_rows, table_rows, transposed
-from wordsquares.told_vectors import told_part
+from wordsquares.scales import signs_in
+from wordsquares.told_vectors import told_parts
 from wordsquares.told_way import exact_pieces, piece_at, steps_at
 
 
@@ -20,8 +21,7 @@ def split(width, form):
     """The tuple (pieces, change) of the told way's pieces and a change that leads to their sum."""
     check_width(width)
     check_form(form)
-    taken, left = steps_at(width, form)
-    parts = sorted([told_part(width, k, block, vectors) for k, block, vectors in taken])
+    parts, left = told_parts(width, form)
     columns = [vector for _, vectors in parts for vector in vectors]
     return [piece for piece, _ in parts], transposed(columns + left)
 
@@ -55,15 +55,7 @@ def pieces_of(form):
 
 def scales_of(form):
     """The list of the tuples (k, many, odd) of the scales of the pieces of a form."""
-    pieces = pieces_of(form)
-    return [scale_in(pieces, k) for k in sorted({k for k, _ in pieces})]
-
-
-def scale_in(pieces, scale):
-    """The tuple (k, many, odd) of a scale k of pieces."""
-    there = [piece for piece in pieces if piece[0] == scale]
-    many = sum([size_of_piece(piece) for piece in there])
-    return (scale, many, any([is_square_kind(kind) for _, kind in there]))
+    return [(k, many, odd) for k, many, odd, _ in signs_in(pieces_of(form))]
 
 
 def fewest_twos(form):

@@ -4,8 +4,8 @@ Each unknown of the piece is told by a row: how often each unknown of the block 
 value of the block at a row is the piece's item of this unknown on the diagonal.
 """
 
-from wordsquares.rows import dot, transposed
-from wordsquares.told_way import piece_at
+from wordsquares.rows import product_of
+from wordsquares.told_way import piece_at, steps_at
 from wordsquares.twos import odd_inverse, odd_root, root_at
 
 
@@ -52,9 +52,22 @@ def rows_of_piece(width, k, block, kind):
     return two_pair_rows(width, low, between, high)
 
 
+def combined(width, rows, vectors):
+    """The vectors that have each of some vectors in them as often as each of the rows tells."""
+    return [[item % (1 << width) for item in row] for row in product_of(rows, vectors)]
+
+
 def told_part(width, k, block, vectors):
     """The tuple (piece, vectors) of what a step takes and of its unknowns, with the very form of the piece."""
     piece = piece_at(width, k, block)
-    rows = rows_of_piece(width, k, block, piece[1])
-    columns = transposed(vectors)
-    return piece, [[dot(row, column) % (1 << width) for column in columns] for row in rows]
+    return piece, combined(width, rows_of_piece(width, k, block, piece[1]), vectors)
+
+
+def told_parts(width, form):
+    """The tuple (parts, left) of the told way at a width.
+
+    The parts are, in order, the tuples of each piece and of the vectors of its unknowns, with the very form
+    of the piece; `left` has the vectors of the unknowns that stand nowhere.
+    """
+    taken, left = steps_at(width, form)
+    return sorted([told_part(width, k, block, vectors) for k, block, vectors in taken]), left

@@ -1,5 +1,8 @@
 """Twos and odd numbers in whole numbers, and what is reckoned with them by a power of 2."""
 
+# All odd numbers by 8.
+ODDS = (1, 3, 5, 7)
+
 
 def twos_of(number):
     """How often 2 divides a number that is not 0."""
