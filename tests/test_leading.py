@@ -5,12 +5,14 @@ from itertools import product
 
 from tests.helpers import (
     Numbers, are_words_below, as_key, classes_by_changes, led_by, pieces_up_to, rows_of, slow_changed,
-    slow_determinant, slow_table, small_tables,
+    slow_determinant, slow_table, small_tables, unknowns_in,
 )
 from wordsquares.alike import alike_at
 from wordsquares.errors import Unlike
+from wordsquares.exchanges import exchanges_of
 from wordsquares.forms import is_change, joined, undone
 from wordsquares.leading import all_leading, change_of_steps, is_leading, leading_change, plain_change, steps_of
+from wordsquares.led import rows_of_exchange
 from wordsquares.plain import plain_at
 
 GREAT = 10 ** 30 - 1
@@ -194,6 +196,24 @@ class PlainChange(unittest.TestCase):
             for kinds in ((7, 7, 7, 7, 7, 7), (3, 5, 3, 5, 3, 5), (5, 3, 1, 7, 5, 3)):
                 for scales in (range(6), range(0, 12, 2), (0, 1, 3, 4, 6, 7), (6, 7, 8, 9, 10, 11), (0, 0, 2, 2, 4, 4)):
                     self.assert_plain(width, rows_of(list(zip(scales, kinds)), 6))
+
+
+class ExchangesLed(unittest.TestCase):
+
+    def test_each_exchange_is_led_by_its_vectors(self):
+        # A shortest road need not go over all kinds of exchanges, so each is looked at for itself.
+        kinds = set()
+        for pieces in pieces_up_to(3, 3) + [[(k, 0), (k, 0)] for k in range(3)] + [[(k, 2), (k, 2)] for k in range(3)]:
+            for taken, put in exchanges_of(pieces):
+                size = unknowns_in(taken)
+                kinds.add(tuple(kind % 2 for _, kind in taken) + (taken[-1][0] - taken[0][0],))
+                for width in range(max(k + 1 if kind % 2 else k + 2 for k, kind in taken + put), 8):
+                    change = [list(column) for column in zip(*rows_of_exchange(width, taken, put))]
+                    self.assertTrue(is_change(change) and are_words_below(width, change))
+                    there = led_by(width, rows_of(taken, size), change)
+                    self.assertEqual(there, slow_table(width, rows_of(put, size)), (width, taken, put))
+        self.assertEqual(kinds, {
+            (1, 1, 0), (1, 1, 1), (1, 1, 2), (1, 0, 0), (0, 1, 0), (1, 0, 1), (0, 1, 1), (0, 0, 0), (1, 1, 1, 0)})
 
 
 class LeadingChange(unittest.TestCase):
