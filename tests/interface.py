@@ -3,7 +3,9 @@
 A later module adds its row to INTERFACE, and a call of each of its functions to CALLS.
 """
 
-from wordsquares import alike, counts, forms, leading, parting, pieces, plain, relations, roads, splits, symbols
+from wordsquares import (
+    alike, counts, forms, kept, leading, parting, parts, pieces, plain, relations, roads, splits, symbols, taken, turns,
+)
 
 INTERFACE = {
     "wordsquares.forms": {
@@ -52,12 +54,32 @@ INTERFACE = {
         "how_often": "width form word", "all_counts": "width form", "counts_along": "form number many",
         "odd_noughts": "width form",
     },
+    "wordsquares.taken": {
+        "takes": "width form word", "lacking": "width form", "lacking_width": "form number",
+        "takes_all": "form", "first_lacking": "form", "odd_nought_width": "form",
+    },
+    "wordsquares.turns": {
+        "turn_sum": "width form times", "piece_turn": "width piece times", "turn_table": "width form",
+        "taken_by_turns": "width form", "turns_part": "one other", "halves_at": "width form", "zero_widths": "form",
+    },
+    "wordsquares.parts": {
+        "is_part": "form part", "rests": "form part", "is_sure": "form part", "pieces_in": "form",
+        "parts_of": "form size", "common_parts": "one other",
+    },
+    "wordsquares.kept": {
+        "how_many_changes": "width size", "how_many_tables": "width size", "how_many_keep": "width form",
+        "how_many_alike": "width form", "keeping": "width form", "is_keeping": "width form value",
+        "settled_width": "form", "kept_from": "form", "shares": "form",
+    },
 }
 
 
 def calls():
     """The list of the tuples (function, arguments, result), made anew each time."""
-    return calls_of_pieces() + calls_of_symbols() + calls_of_alike_forms() + calls_of_changes() + calls_of_counts()
+    return (
+        calls_of_pieces() + calls_of_symbols() + calls_of_alike_forms() + calls_of_changes() + calls_of_counts()
+        + calls_of_turns() + calls_of_parts() + calls_of_kept_forms()
+    )
 
 
 def calls_of_pieces():
@@ -154,4 +176,50 @@ def calls_of_counts():
         (counts.all_counts, {"width": 2, "form": [[1, 0], [0, 1]]}, [4, 8, 4, 0]),
         (counts.counts_along, {"form": [[1]], "number": 4, "many": 6}, [1, 2, 2, 4, 8, 8]),
         (counts.odd_noughts, {"width": 3, "form": [[0, 1], [1, 0]]}, 16),
+    ]
+
+
+def calls_of_turns():
+    three, pair = [[1, 0, 0], [0, 1, 0], [0, 0, 1]], [[0, 1], [1, 0]]
+    return [
+        (taken.takes, {"width": 3, "form": three, "word": 7}, False),
+        (taken.lacking, {"width": 5, "form": three}, [(0, 7), (2, 7)]),
+        (taken.lacking_width, {"form": three, "number": 28}, 5),
+        (taken.takes_all, {"form": three}, False),
+        (taken.first_lacking, {"form": three}, (3, 7)),
+        (taken.odd_nought_width, {"form": [[1, 0], [0, 1]]}, 2),
+        (turns.turn_sum, {"width": 3, "form": [[1, 0], [0, 0]], "times": 1}, (1, 10)),
+        (turns.piece_turn, {"width": 64, "piece": (0, 2), "times": 3}, (4, 130)),
+        (turns.turn_table, {"width": 2, "form": [[1]]}, [[None, None, None, None], [(1, 3), (7, 3), (1, 3), (7, 3)]]),
+        (turns.taken_by_turns, {"width": 2, "form": [[1, 0], [0, 1]]}, [4, 8, 4, 0]),
+        (turns.turns_part, {"one": pair, "other": [[2, 1], [1, 2]]}, (2, 1)),
+        (turns.halves_at, {"width": 3, "form": [[1, 0], [0, 4]]}, 10),
+        (turns.zero_widths, {"form": [[1, 0], [0, 4]]}, [1, 3]),
+    ]
+
+
+def calls_of_parts():
+    mixed, two = [[0, 1, 0], [1, 0, 0], [0, 0, 1]], [[1, 0], [0, 2]]
+    return [
+        (parts.is_part, {"form": mixed, "part": [[1]]}, True),
+        (parts.rests, {"form": mixed, "part": [[1]]}, [[(0, 0)], [(0, 1), (0, 7)]]),
+        (parts.is_sure, {"form": mixed, "part": [[1]]}, False),
+        (parts.pieces_in, {"form": two}, [(0, 1), (0, 3), (1, 1), (1, 3)]),
+        (parts.parts_of, {"form": two, "size": 1}, [[(0, 1)], [(0, 3)], [(1, 1)], [(1, 3)]]),
+        (parts.common_parts, {"one": two, "other": [[3, 0], [0, 3]]}, [[(0, 3)]]),
+    ]
+
+
+def calls_of_kept_forms():
+    two, pair = [[1, 0], [0, 1]], [[0, 1], [1, 0]]
+    return [
+        (kept.how_many_changes, {"width": 2, "size": 3}, 86016),
+        (kept.how_many_tables, {"width": 3, "size": 2}, 256),
+        (kept.how_many_keep, {"width": 3, "form": two}, 128),
+        (kept.how_many_alike, {"width": 3, "form": two}, 12),
+        (kept.keeping, {"width": 1, "form": two}, [[[0, 1], [1, 0]], [[1, 0], [0, 1]]]),
+        (kept.is_keeping, {"width": 3, "form": two, "value": [[0, 9], [-1, 0]]}, True),
+        (kept.settled_width, {"form": [[4]]}, 5),
+        (kept.kept_from, {"form": [[1, 0], [0, 2]]}, (4, 512)),
+        (kept.shares, {"form": pair}, [(-1, 1, 1), (0, 1, 1), (1, 1, 1)]),
     ]

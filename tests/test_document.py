@@ -5,14 +5,19 @@ import unittest
 from wordsquares.alike import alike_at, are_alike, grouped, grouped_at, parting_width
 from wordsquares.counts import all_counts, counts_along, how_often, odd_noughts
 from wordsquares.forms import beside, changed, determinant, is_change, is_form, joined, moved, parting_words, table_of, undone, value_at
+from wordsquares.kept import how_many_alike, how_many_changes, how_many_keep, how_many_tables, is_keeping, keeping, kept_from, settled_width, shares
 from wordsquares.leading import all_leading, change_of_steps, is_leading, leading_change, plain_change, steps_of
 from wordsquares.parting import equal_counts, is_parting_word, low_scales, parting_sign, parting_word
+from wordsquares.parts import common_parts, is_part, is_sure, parts_of, pieces_in, rests
 from wordsquares.pieces import cut, is_pieces, sum_of, times, together, unknowns_of
 from wordsquares.plain import class_at, class_number, how_many_classes, plain_at
 from wordsquares.relations import pair_beside_square, pairs_turned, square_beside_pair, squares_turned
 from wordsquares.roads import exchanged, is_road, road
 from wordsquares.splits import fewest_twos, is_split, pieces_at, pieces_of, scales_of, split
 from wordsquares.symbols import chains_of, is_symbol, pieces_of_symbol, plain_pieces, signs_of, symbol, symbol_of, ways_of
+
+from wordsquares.taken import first_lacking, lacking, lacking_width, odd_nought_width, takes, takes_all
+from wordsquares.turns import halves_at, piece_turn, taken_by_turns, turn_sum, turn_table, turns_part, zero_widths
 
 
 class BehindPoint7(unittest.TestCase):
@@ -152,12 +157,82 @@ class BehindPoint39(unittest.TestCase):
 
     def test_examples(self):
         one, two, pair = [[1]], [[1, 0], [0, 1]], [[0, 1], [1, 0]]
+        three, four = [[1, 0, 0], [0, 1, 0], [0, 0, 1]], [[1, 0, 0, 0], [0, 1, 0, 0], [0, 0, 1, 0], [0, 0, 0, 1]]
         self.assertEqual(
             [how_often(3, one, 1), all_counts(3, one), all_counts(2, two), all_counts(2, pair), how_often(64, one, 1)],
             [4, [2, 4, 0, 0, 2, 0, 0, 0], [4, 8, 4, 0], [12, 0, 4, 0], 4])
         self.assertEqual(
             [counts_along(one, 4, 6), counts_along(pair, 3, 2), odd_noughts(3, pair), odd_noughts(2, two), odd_noughts(1, [[0]])],
             [[1, 2, 2, 4, 8, 8], [0, 0], 16, 0, 1])
+        self.assertEqual(
+            [takes(3, three, 7), lacking(5, three), lacking(3, pair), lacking_width(three, 28), lacking_width(three, 5)],
+            [False, [(0, 7), (2, 7)], [(0, 1), (0, 3), (0, 5), (0, 7)], 5, None])
+        self.assertEqual(
+            [takes_all(four), takes_all(three), first_lacking(three), first_lacking(pair), odd_nought_width(two), odd_nought_width(pair), odd_nought_width([[1, 0], [0, 7]])],
+            [True, False, (3, 7), (1, 1), 2, None, None])
+
+
+class BehindPoint44(unittest.TestCase):
+
+    def test_examples(self):
+        pair, other_pair = [[0, 1], [1, 0]], [[2, 1], [1, 2]]
+        self.assertEqual(
+            [turn_sum(3, [[1]], 1), turn_sum(1, [[1]], 1), turn_sum(2, [[3]], 1), turn_sum(2, pair, 1), turn_sum(2, other_pair, 1), turn_sum(3, [[1]], 2), turn_sum(3, [[1, 0], [0, 7]], 1)],
+            [(1, 4), None, (7, 3), (0, 6), (4, 6), (1, 5), (0, 8)])
+        self.assertEqual(
+            [turn_sum(3, [[1]], 0), turn_sum(3, [[1]], -7), turn_sum(3, [[1, 0], [0, 0]], 1), piece_turn(3, (1, 5), 1), piece_turn(64, (0, 2), 3), piece_turn(2, (5, 7), 1)],
+            [(0, 6), (1, 4), (1, 10), (1, 5), (4, 130), (0, 4)])
+        self.assertEqual(
+            [turn_table(2, [[1]]), taken_by_turns(2, [[1]]), taken_by_turns(2, [[1, 0], [0, 1]]), taken_by_turns(1, pair)],
+            [[[None, None, None, None], [(1, 3), (7, 3), (1, 3), (7, 3)]], [2, 2, 0, 0], [4, 8, 4, 0], [4, 0]])
+        self.assertEqual(
+            [turns_part([[1]], [[5]]), turns_part(pair, other_pair), turns_part([[1, 0], [0, 1]], [[5, 0], [0, 5]]), turns_part([[0]], [[2 ** 70]])],
+            [(3, 1), (2, 1), None, (71, 1)])
+        self.assertEqual(
+            [halves_at(3, [[1, 0], [0, 4]]), halves_at(2, pair), zero_widths([[1, 0], [0, 4]]), zero_widths(pair)],
+            [10, 6, [1, 3], []])
+
+
+class BehindPoint49(unittest.TestCase):
+
+    def test_examples(self):
+        mixed, two = [[0, 1, 0], [1, 0, 0], [0, 0, 1]], [[1, 0], [0, 2]]
+        self.assertEqual(
+            [rests(mixed, [[1]]), rests(mixed, [[0, 1], [1, 0]]), rests(mixed, [[2, 1], [1, 2]]), rests(two, [[3]]), rests([[1]], [[9]]), rests([[1]], [[3]])],
+            [[[(0, 0)], [(0, 1), (0, 7)]], [[(0, 1)]], [], [[(1, 3)]], [[]], []])
+        self.assertEqual(
+            [is_part([[1, 0], [0, 1]], [[5]]), is_part([[1, 0], [0, 1]], [[3]]), is_part([[0, 0], [0, 1]], [[0]]), is_sure(mixed, [[1]]), is_sure(mixed, [[0, 1], [1, 0]])],
+            [True, False, True, False, True])
+        self.assertEqual(
+            [pieces_in(two), pieces_in(mixed), pieces_in([[1, 0], [0, 1]]), pieces_in([[0]])],
+            [[(0, 1), (0, 3), (1, 1), (1, 3)], [(0, 0), (0, 1), (0, 3), (0, 5), (0, 7)], [(0, 1), (0, 5)], []])
+        self.assertEqual(
+            [parts_of(mixed, 2), parts_of([[1, 0, 0], [0, 1, 0], [0, 0, 0]], 1), parts_of(two, 2)],
+            [[[(0, 0)], [(0, 1), (0, 1)], [(0, 1), (0, 3)], [(0, 1), (0, 5)], [(0, 1), (0, 7)]], [[], [(0, 1)], [(0, 5)]], [[(0, 1), (1, 1)]]])
+        self.assertEqual(
+            [common_parts(two, [[3, 0], [0, 3]]), common_parts([[1]], [[3]]), common_parts(mixed, [[0, 1], [1, 0]])],
+            [[[(0, 3)]], None, [[(0, 0)]]])
+
+
+class BehindPoint53(unittest.TestCase):
+
+    def test_examples(self):
+        two, pair, twist = [[1, 0], [0, 1]], [[0, 1], [1, 0]], [[2, 1], [1, 2]]
+        self.assertEqual(
+            [how_many_changes(3, 1), how_many_changes(1, 2), how_many_changes(2, 3), how_many_tables(3, 2), how_many_tables(1, 6)],
+            [4, 6, 86016, 256, 64])
+        self.assertEqual(
+            [how_many_keep(3, [[1]]), how_many_keep(1, pair), how_many_keep(3, two), how_many_keep(3, pair), how_many_alike(3, two), how_many_alike(2, [[0, 0], [0, 0]])],
+            [4, 6, 128, 64, 12, 1])
+        self.assertEqual(
+            [keeping(2, [[1]]), keeping(3, [[2]]), keeping(1, two), is_keeping(3, two, [[0, 9], [-1, 0]]), is_keeping(3, two, [[1, 1], [0, 1]])],
+            [[[[1]], [[3]]], [[[1]], [[3]], [[5]], [[7]]], [[[0, 1], [1, 0]], [[1, 0], [0, 1]]], True, False])
+        self.assertEqual(
+            [settled_width([[4]]), kept_from([[4]]), kept_from(twist), kept_from([[1, 0], [0, 2]]), settled_width([[1, 1], [1, 1]]), kept_from([[0, 0], [0, 0]])],
+            [5, (5, 16), (3, 192), (4, 512), None, None])
+        self.assertEqual(
+            [shares([[1]]), shares(pair), shares(twist), shares([[1, 0], [0, 2]])],
+            [[(-1, 1, 2), (0, 1, 1), (1, 1, 2)], [(-1, 1, 1), (0, 1, 1), (1, 1, 1)], [(-1, 1, 1), (0, 1, 3), (1, 1, 1)], [(-1, 1, 2), (0, 1, 2), (1, 1, 2), (2, 1, 2)]])
 
 
 if __name__ == "__main__":

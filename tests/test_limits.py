@@ -4,7 +4,9 @@ import time
 import unittest
 
 from tests.helpers import Numbers, two_sums
-from wordsquares import alike, counts, forms, leading, parting, pieces, plain, relations, roads, splits, symbols
+from wordsquares import (
+    alike, counts, forms, kept, leading, parting, parts, pieces, plain, relations, roads, splits, symbols, taken, turns,
+)
 
 GREAT = 10 ** 30 - 1
 SECONDS = 5
@@ -146,6 +148,71 @@ class Limits(unittest.TestCase):
             leading.plain_change(64, pieces.sum_of(one, 6))
             leading.plain_change(7, pieces.sum_of(one, 6))
         self.assertEqual(len(leading.all_leading(3, [[0, 0], [0, 0]], [[8, 4], [4, 0]])), 1536)
+
+    def test_taken(self):
+        great = [self.great_rows(seed)[0] for seed in range(6)] + [pieces.sum_of(one, 6) for one, _ in self.great_pieces()]
+        for form in great + [[[2 ** 99]], [[2 ** 99, 0], [0, 3 * 2 ** 98]], [[GREAT] * 6] * 6]:
+            self.assertIs(taken.takes(64, form, 0), True)
+            for word in (1, 2 ** 63, 2 ** 64 - 1):
+                self.assertIs(taken.takes(64, form, word), counts.how_often(64, form, word) > 0)
+            taken.lacking(64, form)
+            for number in (GREAT, -GREAT, 2 ** 99, -3 * 2 ** 98, 0):
+                taken.lacking_width(form, number)
+            self.assertIs(taken.takes_all(form), taken.first_lacking(form) is None)
+            taken.odd_nought_width(form)
+
+    def test_turns(self):
+        for one, other in self.great_pieces():
+            low, high = pieces.sum_of(one, 6), pieces.sum_of(other, 6)
+            self.assertIs(turns.turns_part(low, high) is None, parting.parting_word(low, high) is None)
+            self.assertEqual(len(turns.turn_table(64, low)), 64)
+            turns.zero_widths(high)
+        for seed in range(4):
+            form, change, _ = self.great_rows(seed)
+            for times in (GREAT, -GREAT, 2 ** 99, 0):
+                turns.turn_sum(64, form, times)
+                turns.piece_turn(64, (1000, 2), times)
+                turns.piece_turn(64, (0, 7), times)
+            self.assertIsNone(turns.turns_part(form, forms.changed(form, change)))
+            self.assertEqual(sum(turns.taken_by_turns(8, form)), 2 ** 48)
+            turns.halves_at(64, form)
+
+    def test_parts(self):
+        for one, _ in list(self.great_pieces())[::4]:
+            form = pieces.sum_of(one, 6)
+            for size in (1, 2, 3):
+                part = pieces.sum_of([piece for piece in one if piece[1] % 2][:size], size)
+                self.assertEqual(parts.is_part(form, part), parts.rests(form, part) != [])
+                parts.is_sure(form, part)
+            self.assertTrue(set(one) <= set(parts.pieces_in(form)))
+        for seed in range(3):
+            form, _, _ = self.great_rows(seed)
+            parts.pieces_in(form)
+            four, three = [row[:4] for row in form[:4]], [row[2:5] for row in form[2:5]]
+            for size in (1, 2, 3, 4):
+                self.assertIn(size, [pieces.unknowns_of(some) for some in parts.parts_of(four, size)])
+            parts.common_parts(three, [row[:3] for row in form[:3]])
+            self.assertIs(parts.is_part(form, form), True)
+
+    def test_kept(self):
+        for width, size in ((6, 1), (3, 2), (2, 3), (1, 4), (1, 5), (1, 6)):
+            form = [row[:size] for row in self.great_rows(width)[0][:size]]
+            self.assertEqual(
+                kept.how_many_keep(width, form) * kept.how_many_alike(width, form), kept.how_many_changes(width, size))
+            if kept.how_many_keep(width, form) <= 2000:
+                self.assertTrue(all(kept.is_keeping(width, form, change) for change in kept.keeping(width, form)[::9]))
+        self.assertEqual(len(kept.keeping(1, pieces.sum_of([(0, 1)], 4))), 1344)
+        self.assertEqual(kept.how_many_tables(64, 6), 2 ** (64 * 6 + 63 * 15))
+        for seed in range(10):
+            form, change, _ = self.great_rows(seed)
+            self.assertIs(kept.is_keeping(64, form, [[int(i == j) for j in range(6)] for i in range(6)]), True)
+            self.assertEqual(kept.kept_from(form), kept.kept_from(forms.changed(form, change)))
+            self.assertGreater(len(kept.shares(form)), 2)
+            kept.how_many_keep(64, form)
+        for scales in ((60,) * 6, (0, 12, 24, 36, 48, 60), (0, 1, 2, 3, 4, 60)):
+            form = pieces.sum_of([(k, 3) for k in scales], 6)
+            self.assertEqual(kept.settled_width(form), 63)
+            self.assertEqual(kept.how_many_keep(64, form), kept.kept_from(form)[1] << 15)
 
 
 if __name__ == "__main__":

@@ -3,10 +3,12 @@
 import unittest
 
 from tests.helpers import Numbers
-from wordsquares import alike, counts, forms, leading, parting, pieces, plain, relations, roads, splits, symbols
+from wordsquares import (
+    alike, counts, forms, kept, leading, parting, parts, pieces, plain, relations, roads, splits, symbols, taken, turns,
+)
 from wordsquares.errors import (
     FormError, InvalidChange, InvalidForm, InvalidNumber, InvalidPieces, InvalidSymbol, InvalidWidth, InvalidWord,
-    InvalidWords, Unlike,
+    InvalidWords, TooMany, Unlike,
 )
 
 UNIT = [[1, 0], [0, 1]]
@@ -61,6 +63,15 @@ def no_pieces():
         [(0, "1")], [([0], 1)], [(0, (1,))], [(0, 4)], [(0, 6)], [(0, 8)], [(0, 9)], [(0, -1)], [(0, -7)],
         [(1, 1), (0, 1)], [(0, 3), (0, 1)], [(0, 1), (0, 0)], [(0, 1)] * 7, [(0, 0)] * 4, [(0, 0)] * 3 + [(0, 1)],
         [(0, 0), (0, 0)] + [(0, 1)] * 3, {(0, 1): 1}, [(0, 1), (0, 4)],
+    ]
+
+
+def no_one_piece():
+    """What is no piece alone."""
+    return [item for item in others() if item != (1, 2)] + [
+        0, 1, [], [0, 1], [(0, 1)], ((0, 1),), ((0, 1), (0, 1)), (0,), (0, 1, 0), (-1, 1), (0, 4), (0, 6), (0, 8), (0, 9),
+        (0, -1), (0, -7), (True, 1), (False, 1), (0, True), (0, False), (None, 1), (0, None), ("0", 1), (0, "1"),
+        ([0], 1), (0, (1,)), (0, [2]), {0: 1}, "01", (1, 4), (10 ** 29, 10 ** 29),
     ]
 
 
@@ -149,7 +160,10 @@ def arguments_told():
 
     Each parameter is a tuple (name, right value, list of tuples (error, wrong values)).
     """
-    return told_of_forms_and_pieces() + told_of_symbols() + told_of_two_forms() + told_of_changes() + told_of_counts()
+    return (
+        told_of_forms_and_pieces() + told_of_symbols() + told_of_two_forms() + told_of_changes() + told_of_counts()
+        + told_of_turns() + told_of_parts() + told_of_kept_forms()
+    )
 
 
 def told_of_forms_and_pieces():
@@ -262,6 +276,53 @@ def told_of_counts():
     ]
 
 
+def told_of_turns():
+    number = ("number", -4, [(InvalidNumber, no_numbers())])
+    times = ("times", -4, [(InvalidNumber, no_numbers())])
+    return [
+        (taken.takes, [WIDTH, FORM_TOLD, ("word", 7, [(InvalidWord, no_words_of(3))])]),
+        (taken.lacking, [WIDTH, FORM_TOLD]),
+        (taken.lacking_width, [FORM_TOLD, number]),
+        (taken.takes_all, [FORM_TOLD]),
+        (taken.first_lacking, [FORM_TOLD]),
+        (taken.odd_nought_width, [FORM_TOLD]),
+        (turns.turn_sum, [WIDTH, FORM_TOLD, times]),
+        (turns.piece_turn, [WIDTH, ("piece", (1000, 0), [(InvalidPieces, no_one_piece())]), times]),
+        (turns.turn_table, [WIDTH, FORM_TOLD]),
+        (turns.taken_by_turns, [WIDTH, FORM_TOLD]),
+        (turns.turns_part, [ONE, OTHER]),
+        (turns.halves_at, [WIDTH, FORM_TOLD]),
+        (turns.zero_widths, [FORM_TOLD]),
+    ]
+
+
+def told_of_parts():
+    part = ("part", [[1]], [(InvalidForm, no_forms()), (Unlike, [THREE, FIVE, SIX])])
+    return [
+        (parts.is_part, [FORM_TOLD, part]),
+        (parts.rests, [FORM_TOLD, part]),
+        (parts.is_sure, [FORM_TOLD, part]),
+        (parts.pieces_in, [FORM_TOLD]),
+        (parts.parts_of, [FORM_TOLD, ("size", 2, [(InvalidNumber, no_sizes(1) + [3, 4, 5, 6])])]),
+        (parts.common_parts, [ONE, ("other", THREE, [(InvalidForm, no_forms())])]),
+    ]
+
+
+def told_of_kept_forms():
+    size = ("size", 2, [(InvalidNumber, no_sizes(1))])
+    return [
+        (kept.how_many_changes, [WIDTH, size]),
+        (kept.how_many_tables, [WIDTH, size]),
+        (kept.how_many_keep, [WIDTH, FORM_TOLD]),
+        (kept.how_many_alike, [WIDTH, FORM_TOLD]),
+        (kept.keeping, [WIDTH, FORM_TOLD]),
+        (kept.is_keeping, [WIDTH, FORM_TOLD, ("value", UNIT, [])]),
+        (kept.settled_width, [FORM_TOLD]),
+        (kept.kept_from, [FORM_TOLD]),
+        (kept.shares, [FORM_TOLD]),
+    ]
+
+
 class ToldErrors(unittest.TestCase):
 
     def assert_told(self, error, wrong, function, values, by_name):
@@ -317,6 +378,50 @@ class ToldErrors(unittest.TestCase):
                 self.assert_told(InvalidNumber, wrong, relations.square_beside_pair, {"a": low, "b": 1, "c": wrong, "d": 0}, False)
             for wrong in no_scales(low + 1):
                 self.assert_told(InvalidNumber, wrong, relations.pair_beside_square, {"a": low, "b": 0, "c": wrong, "d": 1}, False)
+
+    def test_bounds_of_parts_and_words_are_those_of_the_form(self):
+        for many in range(1, 7):
+            form = [row[:many] for row in SIX[:many]]
+            for size in range(-1, 9):
+                part = [[int(i == j) for j in range(size)] for i in range(size)]
+                if 1 <= size <= many:
+                    self.assertIs(parts.is_part(form, part), True)
+                    self.assertEqual(len(parts.parts_of(form, size)) > 0, True)
+                else:
+                    error = Unlike if many < size <= 6 else InvalidForm
+                    for function in (parts.is_part, parts.rests, parts.is_sure):
+                        self.assert_told(error, part, function, {"form": form, "part": part}, True)
+                    self.assert_told(InvalidNumber, size, parts.parts_of, {"form": form, "size": size}, True)
+        for width in (1, 2, 63, 64):
+            for wrong in no_words_of(width):
+                self.assert_told(InvalidWord, wrong, taken.takes, {"w": width, "f": FORM, "x": wrong}, False)
+            taken.takes(width, FORM, 2 ** width - 1)
+
+    def assert_too_many(self, number, function, *arguments):
+        with self.assertRaises(TooMany) as found:
+            function(*arguments)
+        self.assertEqual((type(found.exception), found.exception.value), (TooMany, number), arguments)
+
+    def test_too_many_tells_how_many_lists_there_are(self):
+        for size in range(1, 7):
+            nought = [[0] * size for _ in range(size)]
+            high = [[int(i == j) << 60 for j in range(size)] for i in range(size)]
+            for width in range(1, 65):
+                for form in (nought, high):
+                    settled = form is high and width >= 63
+                    for function in (kept.how_many_keep, kept.how_many_alike, kept.keeping):
+                        if width * size > 6 and not settled:
+                            self.assert_too_many(2 ** (width * size), function, width, form)
+        for function in (kept.how_many_keep, kept.how_many_alike, kept.keeping):
+            self.assert_told(InvalidWidth, 65, function, {"width": 65, "form": SIX}, True)
+            self.assert_told(InvalidForm, SEVEN, function, {"width": 64, "form": SEVEN}, True)
+            self.assert_too_many(2 ** 384, function, 64, [[0] * 6] * 6)
+
+    def test_too_many_changes_are_told_by_their_number(self):
+        for width, form in ((1, [[0] * 4] * 4), (2, [[0] * 3] * 3), (1, SIX), (64, SIX), (3, THREE), (12, UNIT), (63, [[2 ** 60]])):
+            many = kept.how_many_keep(width, form)
+            self.assertGreater(many, 2000)
+            self.assert_too_many(many, kept.keeping, width, form)
 
     def test_any_number_where_the_scales_are_unlike(self):
         for number in (-10 ** 29, -3, -1, 0, 1, 2, 10 ** 29 + 1):
@@ -412,8 +517,10 @@ class Questions(unittest.TestCase):
             self.assertIs(roads.is_road(PIECES, PIECES, [value]), value == PIECES, value)
             self.assertIs(roads.is_road([], [], value), value == [[]] and isinstance(value, list), value)
             self.assertIs(leading.is_leading(3, FORM, UNIT, [value]), False, value)
+            self.assertIs(kept.is_keeping(3, FORM, value), False, value)
         for value in no_changes() + [[[1]], THREE, SIX]:
             self.assertIs(leading.is_leading(3, [[0, 0], [0, 0]], [[0, 0], [0, 0]], value), False, value)
+            self.assertIs(kept.is_keeping(3, [[0, 0], [0, 0]], value), False, value)
 
     def test_is_split_takes_any_value(self):
         for value in others() + no_pieces() + no_changes():

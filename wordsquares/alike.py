@@ -8,6 +8,7 @@ from wordsquares.left import symbol_at
 from wordsquares.scales import key_of
 from wordsquares.symbols import symbol
 from wordsquares.told_way import exact_pieces
+from wordsquares.widths import least_width
 
 
 def are_alike(one, other):
@@ -34,15 +35,13 @@ def parting_width(one, other):
     if symbol(one) == symbol(other):
         return None
     low, high = exact_pieces(one), exact_pieces(other)
-    # Forms that are alike at a width are so at each lesser one, too.
-    least, greatest = 1, settled_at(low + high)
-    while least < greatest:
-        width = (least + greatest) // 2
-        if symbol_at(width, low, len(one)) == symbol_at(width, high, len(one)):
-            least = width + 1
-        else:
-            greatest = width
-    return least
+    size = len(one)
+
+    def are_parted(width):
+        """Whether the forms are not alike at a width, and so at no greater one."""
+        return symbol_at(width, low, size) != symbol_at(width, high, size)
+
+    return least_width(settled_at(low + high), are_parted)
 
 
 def check_forms(forms):

@@ -43,6 +43,12 @@ def are_words(width, value, size):
     return all([is_word(width, item) for item in value])
 
 
+def check_whole(number):
+    """Refuse what is no whole number."""
+    if not is_whole(number):
+        raise InvalidNumber(number)
+
+
 def check_width(width):
     """Refuse what is no width."""
     if not is_width(width):

@@ -1,7 +1,7 @@
 """How often words are taken."""
 
-from wordsquares.checks import check_width, check_word, is_whole, is_width
-from wordsquares.eighths import taken_often, turns_along
+from wordsquares.checks import check_whole, check_width, check_word, is_width
+from wordsquares.eighths import all_taken, odd_noughts_often, taken_often, turns_along
 from wordsquares.errors import InvalidNumber
 from wordsquares.forms import check_form
 from wordsquares.told_way import exact_pieces
@@ -24,15 +24,13 @@ def all_counts(width, form):
     """The list of how often a form takes each word of a width."""
     check_width(width)
     check_form(form)
-    turns = turns_of(width, form)
-    return [taken_often(turns, width, len(form), word) for word in range(1 << width)]
+    return all_taken(turns_of(width, form), width, len(form))
 
 
 def counts_along(form, number, many):
     """The list of how often the word of a whole number is taken at the widths 1, 2, .., many."""
     check_form(form)
-    if not is_whole(number):
-        raise InvalidNumber(number)
+    check_whole(number)
     if not is_width(many):
         raise InvalidNumber(many)
     turns = turns_of(many, form)
@@ -43,8 +41,4 @@ def odd_noughts(width, form):
     """At how many lists of words with at least one odd word a form takes 0."""
     check_width(width)
     check_form(form)
-    turns = turns_of(width, form)
-    size = len(form)
-    # Of even words the halves take 0 at the width less 2, each for all words that are they there.
-    even = taken_often(turns, width - 2, size, 0) << size if width >= 2 else 1
-    return taken_often(turns, width, size, 0) - even
+    return odd_noughts_often(turns_of(width, form), width, len(form))

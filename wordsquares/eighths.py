@@ -9,7 +9,7 @@ A width is any whole number from 1 on here. Nothing is checked.
 """
 
 from wordsquares.pieces import is_square_kind, size_of_piece, size_of_pieces
-from wordsquares.twos import ODDS
+from wordsquares.twos import ODDS, twos_of
 
 
 def turn_of_piece(width, piece, odd):
@@ -34,6 +34,18 @@ def turn_of_pieces(width, pieces, size, odd):
         return None
     noughts = 2 * width * (size - size_of_pieces(pieces))
     return sum([turn for turn, _ in found]) % 8, noughts + sum([halves for _, halves in found])
+
+
+def turn_for(width, pieces, size, times):
+    """The sum of a sum of pieces with a size for any whole number, also an even one."""
+    word = times % (1 << width)
+    if word == 0:
+        return 0, 2 * width * size
+    # With each two in the number the sum is that at a width less, each list of words there counted as
+    # often as there are lists with the bits that are cut.
+    twos = twos_of(word)
+    found = turn_of_pieces(width - twos, pieces, size, word >> twos)
+    return None if found is None else (found[0], found[1] + 2 * twos * size)
 
 
 def turns_at(width, pieces, size):
@@ -72,6 +84,18 @@ def taken_often(turns, width, size, word):
             found = sum_turned_back(turns[at - 1], (word << 3) >> at)
             total = total + (found << (at + (width - at) * size))
     return total >> (width + 3)
+
+
+def all_taken(turns, width, size):
+    """The list of how often each word of a width is taken, told by the sums at each width up to it."""
+    return [taken_often(turns, width, size, word) for word in range(1 << width)]
+
+
+def odd_noughts_often(turns, width, size):
+    """At how many lists of words with an odd one 0 is taken at a width, told by the sums at each width up to it."""
+    # Of even words the halves take 0 at the width less 2, each for all words that are they there.
+    even = taken_often(turns, width - 2, size, 0) << size if width >= 2 else 1
+    return taken_often(turns, width, size, 0) - even
 
 
 def settled_at(pieces):

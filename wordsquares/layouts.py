@@ -1,7 +1,7 @@
 """Lists of pieces that are gone through: all that have given scales, or all of few unknowns."""
 
 from wordsquares.pieces import KINDS, size_of_piece
-from wordsquares.scales import has_square, symbol_in
+from wordsquares.scales import has_square, key_of, symbol_in
 
 
 def kind_lists(unknowns, kinds):
@@ -35,14 +35,34 @@ def lists_with_scales(scales):
     return joined_lists([lists_at_scale(k, unknowns, odd, KINDS) for k, unknowns, odd, _ in scales])
 
 
+def size_of_symbol(value):
+    """How many unknowns there are in a symbol, noughts among them."""
+    scales, _, noughts = value
+    return noughts + sum([unknowns for _, unknowns, _, _ in scales])
+
+
 def first_with_symbol(value):
     """The first list of pieces that has a symbol, with some size, None if there is none."""
-    scales, _, noughts = value
-    size = noughts + sum([unknowns for _, unknowns, _, _ in scales])
-    for pieces in lists_with_scales(scales):
+    size = size_of_symbol(value)
+    for pieces in lists_with_scales(value[0]):
         if symbol_in(pieces, size) == value:
             return pieces
     return None
+
+
+def all_with_symbol(value):
+    """The list, in order, of all lists of pieces that have a symbol, with some size."""
+    size = size_of_symbol(value)
+    return [pieces for pieces in lists_with_scales(value[0]) if symbol_in(pieces, size) == value]
+
+
+def first_of_each(lists, size):
+    """The list, in order, of the first ones of lists of pieces that have one symbol, with a size."""
+    firsts = {}
+    for pieces in sorted(lists):
+        key = key_of(symbol_in(pieces, size))
+        firsts[key] = firsts.get(key, pieces)
+    return list(firsts.values())
 
 
 def lists_up_to(size, choices):
