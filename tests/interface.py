@@ -1,10 +1,8 @@
-"""The landed part of the document's interface: modules, names and arguments, and calls that answer.
-
-A later module adds its row to INTERFACE, and a call of each of its functions to CALLS.
-"""
+"""The document's interface: modules, names and arguments, and calls that answer."""
 
 from wordsquares import (
-    alike, counts, forms, kept, leading, parting, parts, pieces, plain, relations, roads, splits, symbols, taken, turns,
+    alike, alternating, book, counts, forms, kept, leading, lines, parting, parts, pieces, plain, relations, roads, sheets,
+    splits, symbols, taken, turns,
 )
 
 INTERFACE = {
@@ -71,6 +69,23 @@ INTERFACE = {
         "how_many_alike": "width form", "keeping": "width form", "is_keeping": "width form value",
         "settled_width": "form", "kept_from": "form", "shares": "form",
     },
+    "wordsquares.sheets": {
+        "rungs": "width sheet", "are_like": "width one other", "rungs_everywhere": "sheet", "diagonal": "width sheet",
+        "is_diagonal": "width sheet value", "pair_count": "width sheet word", "silent": "width sheet",
+    },
+    "wordsquares.alternating": {
+        "is_alternating": "width value", "pair_rungs": "width sheet", "paired": "width sheet",
+        "is_paired": "width sheet value",
+    },
+    "wordsquares.lines": {"line_of": "width form", "of_line": "line"},
+    "wordsquares.book": {"is_deed": "book value"},
+}
+
+# The class of the interface, with the arguments of its making and of its methods.
+BOOK_ARGUMENTS = "width form"
+BOOK_METHODS = {
+    "width": "", "form": "", "do": "deed", "undo": "", "redo": "", "log": "", "copy": "", "value": "words", "pieces": "",
+    "alike": "other",
 }
 
 
@@ -78,7 +93,7 @@ def calls():
     """The list of the tuples (function, arguments, result), made anew each time."""
     return (
         calls_of_pieces() + calls_of_symbols() + calls_of_alike_forms() + calls_of_changes() + calls_of_counts()
-        + calls_of_turns() + calls_of_parts() + calls_of_kept_forms()
+        + calls_of_turns() + calls_of_parts() + calls_of_kept_forms() + calls_of_sheets() + calls_of_lines_and_books()
     )
 
 
@@ -222,4 +237,29 @@ def calls_of_kept_forms():
         (kept.settled_width, {"form": [[4]]}, 5),
         (kept.kept_from, {"form": [[1, 0], [0, 2]]}, (4, 512)),
         (kept.shares, {"form": pair}, [(-1, 1, 1), (0, 1, 1), (1, 1, 1)]),
+    ]
+
+
+def calls_of_sheets():
+    sheet, turned = [[2, 4], [6, 0]], [[0, 6], [2, 0]]
+    return [
+        (sheets.rungs, {"width": 3, "sheet": sheet}, [1, 2]),
+        (sheets.are_like, {"width": 2, "one": sheet, "other": [[0, 2], [0, 0]]}, True),
+        (sheets.rungs_everywhere, {"sheet": [[1, 2, 3], [4, 5, 6]]}, [0, 0]),
+        (sheets.diagonal, {"width": 1, "sheet": [[0, 1]]}, ([[1]], [[0, 1], [1, 0]])),
+        (sheets.is_diagonal, {"width": 1, "sheet": [[0, 1]], "value": ([[1]], [[0, 1], [1, 0]])}, True),
+        (sheets.pair_count, {"width": 2, "sheet": [[2]], "word": 2}, 4),
+        (sheets.silent, {"width": 3, "sheet": sheet}, 8),
+        (alternating.is_alternating, {"width": 2, "value": [[0, 1], [3, 0]]}, True),
+        (alternating.pair_rungs, {"width": 3, "sheet": [[0, 2], [6, 0]]}, [1]),
+        (alternating.paired, {"width": 3, "sheet": turned}, [[1, 0], [0, 3]]),
+        (alternating.is_paired, {"width": 3, "sheet": turned, "value": [[1, 0], [0, 3]]}, True),
+    ]
+
+
+def calls_of_lines_and_books():
+    return [
+        (lines.line_of, {"width": 3, "form": [[1, 2], [2, 5]]}, "3:1,2;5"),
+        (lines.of_line, {"line": "5:0,0,-1;2,0;9"}, (5, [[0, 0, -1], [0, 2, 0], [-1, 0, 9]])),
+        (book.is_deed, {"book": book.FormBook(3, [[1, 2], [2, 5]]), "value": ("change", [[1, 3], [0, -1]])}, True),
     ]

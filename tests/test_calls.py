@@ -5,8 +5,9 @@ import inspect
 import unittest
 from copy import deepcopy
 
-from tests.interface import INTERFACE, calls
+from tests.interface import BOOK_ARGUMENTS, BOOK_METHODS, INTERFACE, calls
 from wordsquares import alike
+from wordsquares.book import FormBook
 
 
 def lists_in(value):
@@ -60,6 +61,18 @@ class Interface(unittest.TestCase):
                 for parameter in inspect.signature(found).parameters.values():
                     self.assertIs(parameter.default, inspect.Parameter.empty, name)
                     self.assertEqual(parameter.kind, inspect.Parameter.POSITIONAL_OR_KEYWORD, name)
+
+    def test_the_book_has_its_methods_with_their_arguments_in_its_own_body(self):
+        self.assertEqual(FormBook.__module__, "wordsquares.book")
+        self.assertEqual(list(inspect.signature(FormBook).parameters), BOOK_ARGUMENTS.split())
+        self.assertIn("__eq__", vars(FormBook))
+        for name, arguments in BOOK_METHODS.items():
+            self.assertIn(name, vars(FormBook))
+            parameters = inspect.signature(vars(FormBook)[name]).parameters
+            self.assertEqual(list(parameters), ["self"] + arguments.split(), name)
+            for parameter in parameters.values():
+                self.assertIs(parameter.default, inspect.Parameter.empty, name)
+                self.assertIs(parameter.kind, inspect.Parameter.POSITIONAL_OR_KEYWORD, name)
 
     def test_each_function_is_called_here(self):
         called = {(function.__module__, function.__name__) for function, _, _ in calls()}

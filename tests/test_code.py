@@ -5,7 +5,7 @@ import builtins
 import os
 import unittest
 
-from tests.interface import INTERFACE
+from tests.interface import BOOK_METHODS, INTERFACE
 
 ROOT = os.path.dirname(os.path.dirname(os.path.abspath(__file__)))
 PACKAGE = os.path.join(ROOT, "wordsquares")
@@ -31,8 +31,8 @@ WORDS = {
     "typing", "typing_extensions", "enum", "Enum", "Generic", "Protocol", "ABC", "namedtuple", "NamedTuple",
     "dataclass", "register", "mro", "elements", "open", "input", "law",
 }
-# Kinds of code that the package does not use at all. A generator expression would be allowed for
-# now, but not beside a class with ==, as the book will be one.
+# Kinds of code that the package does not use at all. Generator expressions are not allowed in most
+# places beside a class with ==, as the book is one.
 NEVER = (
     ast.Global, ast.AsyncFunctionDef, ast.AsyncFor, ast.AsyncWith, ast.Await, ast.GeneratorExp, ast.Div,
     ast.MatMult, ast.Import,
@@ -140,6 +140,10 @@ class Imports(unittest.TestCase):
         for module, names in INTERFACE.items():
             defined = {node.name for node in trees[module].body if isinstance(node, ast.FunctionDef)}
             self.assertLessEqual(set(names), defined, module)
+        book, = [node for node in trees["wordsquares.book"].body if isinstance(node, ast.ClassDef)]
+        self.assertEqual(book.name, "FormBook")
+        methods = {node.name for node in book.body if isinstance(node, ast.FunctionDef)}
+        self.assertEqual(methods, set(BOOK_METHODS) | {"__init__", "__eq__"})
 
 
 class Code(unittest.TestCase):
@@ -182,8 +186,16 @@ class Code(unittest.TestCase):
         for module, _, tree in files():
             for node in ast.walk(tree):
                 if isinstance(node, ast.Attribute):
-                    own = isinstance(node.value, ast.Name) and node.value.id == "self"
+                    name = node.value.id if isinstance(node.value, ast.Name) else None
+                    own = name == "self" or name in ("book", "other") and module == "wordsquares.book"
                     self.assertTrue(own or node.attr in METHODS, (module, node.lineno))
+
+    def test_attributes_are_not_methods_and_begin_with_an_underscore(self):
+        for module, _, tree in files():
+            for node in ast.walk(tree):
+                if isinstance(node, ast.Attribute) and isinstance(node.ctx, ast.Store):
+                    self.assertTrue(module == "wordsquares.errors" or node.attr[0] == "_", (module, node.lineno))
+                    self.assertFalse(module != "wordsquares.errors" and node.attr in BOOK_METHODS)
 
     def test_what_the_library_gives_is_iterated_at_once(self):
         for module, _, tree in files():
@@ -204,7 +216,7 @@ class Code(unittest.TestCase):
                 alias.name for node in tree.body if isinstance(node, ast.ImportFrom) for alias in node.names
             }
             for name in bound_names(tree):
-                if name != "__init__":
+                if name not in ("__init__", "__eq__"):
                     self.assertFalse(hasattr(builtins, name), (module, name))
                     self.assertNotIn(name, imported, module)
                     self.assertNotIn(name, WORDS, module)

@@ -3,16 +3,20 @@
 import unittest
 
 from wordsquares.alike import alike_at, are_alike, grouped, grouped_at, parting_width
+from wordsquares.alternating import is_alternating, is_paired, pair_rungs, paired
+from wordsquares.book import FormBook, is_deed
 from wordsquares.counts import all_counts, counts_along, how_often, odd_noughts
 from wordsquares.forms import beside, changed, determinant, is_change, is_form, joined, moved, parting_words, table_of, undone, value_at
 from wordsquares.kept import how_many_alike, how_many_changes, how_many_keep, how_many_tables, is_keeping, keeping, kept_from, settled_width, shares
 from wordsquares.leading import all_leading, change_of_steps, is_leading, leading_change, plain_change, steps_of
+from wordsquares.lines import line_of, of_line
 from wordsquares.parting import equal_counts, is_parting_word, low_scales, parting_sign, parting_word
 from wordsquares.parts import common_parts, is_part, is_sure, parts_of, pieces_in, rests
 from wordsquares.pieces import cut, is_pieces, sum_of, times, together, unknowns_of
 from wordsquares.plain import class_at, class_number, how_many_classes, plain_at
 from wordsquares.relations import pair_beside_square, pairs_turned, square_beside_pair, squares_turned
 from wordsquares.roads import exchanged, is_road, road
+from wordsquares.sheets import are_like, diagonal, is_diagonal, pair_count, silent, rungs, rungs_everywhere
 from wordsquares.splits import fewest_twos, is_split, pieces_at, pieces_of, scales_of, split
 from wordsquares.symbols import chains_of, is_symbol, pieces_of_symbol, plain_pieces, signs_of, symbol, symbol_of, ways_of
 
@@ -233,6 +237,50 @@ class BehindPoint53(unittest.TestCase):
         self.assertEqual(
             [shares([[1]]), shares(pair), shares(twist), shares([[1, 0], [0, 2]])],
             [[(-1, 1, 2), (0, 1, 1), (1, 1, 2)], [(-1, 1, 1), (0, 1, 1), (1, 1, 1)], [(-1, 1, 1), (0, 1, 3), (1, 1, 1)], [(-1, 1, 2), (0, 1, 2), (1, 1, 2), (2, 1, 2)]])
+
+
+class BehindPoint57(unittest.TestCase):
+
+    def test_examples(self):
+        sheet, flat = [[2, 4], [6, 0]], [[1, 2, 3], [4, 5, 6]]
+        self.assertEqual(
+            [rungs(3, sheet), rungs(2, sheet), rungs_everywhere(sheet), rungs_everywhere(flat), rungs(5, [[0, 0]]), are_like(2, sheet, [[0, 2], [0, 0]])],
+            [[1, 2], [1], [1, 2], [0, 0], [], True])
+        self.assertEqual(
+            [is_diagonal(1, [[0, 1]], ([[1]], [[0, 1], [1, 0]])), is_diagonal(1, [[0, 1]], ([[1]], [[1, 0], [0, 1]]))],
+            [True, False])
+        self.assertEqual(
+            [pair_count(1, [[1]], 1), pair_count(1, [[1]], 0), pair_count(2, [[2]], 2), silent(3, sheet), silent(2, [[1], [1]])],
+            [1, 3, 4, 8, 4])
+        self.assertEqual(
+            [is_alternating(2, [[0, 1], [3, 0]]), is_alternating(2, [[2, 1], [3, 0]]), pair_rungs(3, [[0, 2], [6, 0]]), is_paired(3, [[0, 6], [2, 0]], [[1, 0], [0, 3]]), is_paired(3, [[0, 6], [2, 0]], [[1, 0], [0, 1]])],
+            [True, False, [1], True, False])
+        # These two are imported there, too, but have any result.
+        self.assertIs(is_diagonal(3, sheet, diagonal(3, sheet)), True)
+        self.assertIs(is_paired(3, [[0, 6], [2, 0]], paired(3, [[0, 6], [2, 0]])), True)
+
+
+class BehindPoint61(unittest.TestCase):
+
+    def test_examples(self):
+        self.assertEqual(
+            [line_of(3, [[1, 2], [2, 5]]), line_of(64, [[-7]]), of_line("5:0,0,-1;2,0;9"), of_line("1:0")],
+            ["3:1,2;5", "64:-7", (5, [[0, 0, -1], [0, 2, 0], [-1, 0, 9]]), (1, [[0]])])
+        book = FormBook(3, [[1, 2], [2, 5]])
+        self.assertEqual(
+            [is_deed(book, ("change", [[1, 3], [0, -1]])), is_deed(book, ("change", [[2]])), is_deed(book, ("only", [1, 0])), book.value([7, 2])],
+            [True, False, False, 5])
+        book.do(("change", [[1, -2], [0, 1]]))
+        self.assertEqual(
+            [book.form(), book.log(), book.alike(FormBook(3, [[1, 0], [0, 1]])), book.alike(FormBook(3, [[1, 0], [0, 3]]))],
+            [[[1, 0], [0, 1]], [("change", [[1, -2], [0, 1]])], True, False])
+        book.undo()
+        book.do(("beside", [[4]]))
+        book.do(("only", [0, 2]))
+        book.do(("width", 2))
+        self.assertEqual(
+            [book.form(), book.width(), len(book.log()), book == book.copy()],
+            [[[1, 0], [0, 4]], 2, 3, True])
 
 
 if __name__ == "__main__":

@@ -5,7 +5,8 @@ import unittest
 
 from tests.helpers import Numbers, two_sums
 from wordsquares import (
-    alike, counts, forms, kept, leading, parting, parts, pieces, plain, relations, roads, splits, symbols, taken, turns,
+    alike, alternating, book, counts, forms, kept, leading, lines, parting, parts, pieces, plain, relations, roads, sheets,
+    splits, symbols, taken, turns,
 )
 
 GREAT = 10 ** 30 - 1
@@ -213,6 +214,62 @@ class Limits(unittest.TestCase):
             form = pieces.sum_of([(k, 3) for k in scales], 6)
             self.assertEqual(kept.settled_width(form), 63)
             self.assertEqual(kept.how_many_keep(64, form), kept.kept_from(form)[1] << 15)
+
+    def test_sheets(self):
+        for seed in range(20):
+            form, change, numbers = self.great_rows(seed)
+            sheet = [row[:seed % 6 + 1] for row in form]
+            other = [[item << 64 for item in row] for row in sheet]
+            self.assertIs(sheets.are_like(64, sheet, sheet), True)
+            self.assertEqual(sheets.rungs_everywhere(other), [k + 64 for k in sheets.rungs_everywhere(sheet)])
+            for some in (sheet, other, [[GREAT] * 6] * 6):
+                for width in (1, 64):
+                    self.assertIs(sheets.is_diagonal(width, some, sheets.diagonal(width, some)), True)
+                    for word in (0, 1, 2 ** width - 1, numbers.below(2 ** width)):
+                        sheets.pair_count(width, some, word)
+                    sheets.silent(width, some)
+
+    def test_alternating(self):
+        for seed in range(20):
+            form, _, numbers = self.great_rows(seed)
+            sheet = [[form[i][j] if i > j else -form[i][j] if i < j else 0 for j in range(6)] for i in range(6)]
+            for more in (0, 1, 30):
+                some = [[item << more for item in row] for row in sheet]
+                self.assertIs(alternating.is_alternating(64, some), True)
+                self.assertIs(alternating.is_paired(64, some, alternating.paired(64, some)), True)
+                self.assertEqual(len(alternating.pair_rungs(64, some)), 3)
+
+    def test_lines(self):
+        for least in (10 ** 99, -10 ** 100 + 1, 0):
+            form = [[least + i + j for j in range(6)] for i in range(6)]
+            self.assertEqual(lines.of_line(lines.line_of(64, form)), (64, form))
+        form = [[7 * 10 ** 36] * 6] * 6
+        self.assertGreater(len(lines.line_of(64, form)), 790)
+        self.assertEqual(lines.of_line(lines.line_of(64, form)), (64, form))
+
+    def test_books(self):
+        for seed in range(6):
+            form, change, numbers = self.great_rows(seed)
+            some = book.FormBook(64, form)
+            pieces_at_first = some.pieces()
+            for deed in (("change", change), ("plain",), ("only", [0, 2, 4, 5]), ("beside", [[GREAT, -GREAT], [-GREAT, 7]]), ("plain",)):
+                self.assertIs(book.is_deed(some, deed), True)
+                some.do(deed)
+                if len(some.log()) < 3:
+                    self.assertEqual(some.pieces(), pieces_at_first)
+                some.value(numbers.words(64, 6)[:len(some.form())])
+            other = some.copy()
+            for _ in range(5):
+                other.undo()
+            self.assertEqual(other.form(), form)
+            self.assertIs(other.alike(book.FormBook(1, forms.changed(form, change))), True)
+            for _ in range(5):
+                other.redo()
+            self.assertEqual(other, some)
+            for _ in range(20):
+                some.do(("change", change))
+            self.assertEqual(len(some.log()), 25)
+            some.pieces()
 
 
 if __name__ == "__main__":

@@ -4,11 +4,12 @@ import unittest
 
 from tests.helpers import Numbers
 from wordsquares import (
-    alike, counts, forms, kept, leading, parting, parts, pieces, plain, relations, roads, splits, symbols, taken, turns,
+    alike, alternating, book, counts, forms, kept, leading, lines, parting, parts, pieces, plain, relations, roads, sheets,
+    splits, symbols, taken, turns,
 )
 from wordsquares.errors import (
-    FormError, InvalidChange, InvalidForm, InvalidNumber, InvalidPieces, InvalidSymbol, InvalidWidth, InvalidWord,
-    InvalidWords, TooMany, Unlike,
+    FormError, InvalidChange, InvalidDeed, InvalidForm, InvalidLine, InvalidNumber, InvalidPieces, InvalidSymbol,
+    InvalidWidth, InvalidWord, InvalidWords, TooMany, Unlike,
 )
 
 UNIT = [[1, 0], [0, 1]]
@@ -27,6 +28,7 @@ def others():
     """Values that are nothing that any argument has to be."""
     return [
         None, True, False, "", "1", "form", (), (1,), (1, 2), {}, {"a": 1}, {0: [1]}, InvalidForm([1]),
+        book.FormBook(3, [[1]]), [book.FormBook(3, [[1]])], (book.FormBook(3, [[1]]),),
         [None], [True], ["1"], [[]], [[None]], [[True]], [["1"]], [{}], deep(1), deep("x"), (FORM,), (UNIT, UNIT),
     ]
 
@@ -115,6 +117,31 @@ def no_symbols():
     ]
 
 
+def no_sheets():
+    """What is no list of 1 to 6 lists of equally many whole numbers, 1 to 6 of them."""
+    return others() + [
+        0, 1, -1, 10 ** 29, [], [1], [1, 2], ((1,),), [(1,)], [[1, 2], (2, 5)], ([1, 2], [2, 5]), [[1, 2], [2]], [[1], [2, 5]],
+        [[1, 2], []], [[], []], [[1, None]], [[1, True]], [[False]], [["1"]], [[1, [2]]], SEVEN, [[0] * 7], [[0]] * 7, [[[1]]],
+        {0: [1]}, "11", [[1, 2], None], [[1, 2], 2], [[1, 2], "34"],
+    ]
+
+
+def no_alternating():
+    """What is no alternating sheet at the width 3."""
+    return no_sheets() + [
+        [[1]], [[4]], [[0, 1]], [[0], [0]], [[0, 1], [1, 0]], [[0, 1], [6, 0]], [[4, 0], [0, 0]], [[0, 1], [7, 4]], UNIT, FORM,
+        [[0, 0], [0, 0], [0, 0]],
+    ]
+
+
+def no_lines():
+    """Many more of them are made in the tests of lines."""
+    return others() + [
+        0, 3, [], "3", "3:", ":1", "3:1,2", "3:1;2", "3:1,2;5;", "03:1", "3:01", "+3:1", "3:+1", "3:-0", " 3:1", "3:1 ", "3:1\n",
+        "0:1", "65:1", "3:1,2;5,6", "3:1:2", "3: 1", "3:--1", "3:1,,2;5", ["3:1"], ("3:1",), (3, [[1]]), {"3:1": 1},
+    ]
+
+
 def no_scales(least):
     """What is no count from a least one to 64."""
     return others() + [-1, least - 1, 65, 10 ** 29, [least], (least,), [], str(least)]
@@ -162,7 +189,7 @@ def arguments_told():
     """
     return (
         told_of_forms_and_pieces() + told_of_symbols() + told_of_two_forms() + told_of_changes() + told_of_counts()
-        + told_of_turns() + told_of_parts() + told_of_kept_forms()
+        + told_of_turns() + told_of_parts() + told_of_kept_forms() + told_of_sheets() + told_of_lines_and_books()
     )
 
 
@@ -323,6 +350,36 @@ def told_of_kept_forms():
     ]
 
 
+def told_of_sheets():
+    sheet = ("sheet", [[2, 4, 1], [6, 0, 3]], [(InvalidForm, no_sheets())])
+    turned = ("sheet", [[0, 6], [2, 0]], [(InvalidForm, no_alternating())])
+    one, other = [(name, [[2, 4], [6, 0]], [(InvalidForm, no_sheets())]) for name in ("one", "other")]
+    value = ("value", None, [])
+    return [
+        (sheets.rungs, [WIDTH, sheet]),
+        (sheets.are_like, [WIDTH, one, other]),
+        (sheets.rungs_everywhere, [sheet]),
+        (sheets.diagonal, [WIDTH, sheet]),
+        (sheets.is_diagonal, [WIDTH, sheet, value]),
+        (sheets.pair_count, [WIDTH, sheet, ("word", 7, [(InvalidWord, no_words_of(3))])]),
+        (sheets.silent, [WIDTH, sheet]),
+        (alternating.is_alternating, [WIDTH, value]),
+        (alternating.pair_rungs, [WIDTH, turned]),
+        (alternating.paired, [WIDTH, turned]),
+        (alternating.is_paired, [WIDTH, turned, value]),
+    ]
+
+
+def told_of_lines_and_books():
+    no_books = [item for item in others() if type(item) is not book.FormBook] + [0, 3, FORM, (3, FORM), [3, FORM], "3:1"]
+    return [
+        (lines.line_of, [WIDTH, FORM_TOLD]),
+        (lines.of_line, [("line", "3:1,2;5", [(InvalidLine, no_lines())])]),
+        (book.FormBook, [WIDTH, FORM_TOLD]),
+        (book.is_deed, [("book", book.FormBook(3, FORM), [(InvalidDeed, no_books)]), ("value", None, [])]),
+    ]
+
+
 class ToldErrors(unittest.TestCase):
 
     def assert_told(self, error, wrong, function, values, by_name):
@@ -396,6 +453,42 @@ class ToldErrors(unittest.TestCase):
             for wrong in no_words_of(width):
                 self.assert_told(InvalidWord, wrong, taken.takes, {"w": width, "f": FORM, "x": wrong}, False)
             taken.takes(width, FORM, 2 ** width - 1)
+
+    def test_sheets_of_all_numbers_of_lists_and_items(self):
+        for many in range(8):
+            for items in range(8):
+                sheet = [[1] * items for _ in range(many)]
+                if 1 <= many <= 6 and 1 <= items <= 6:
+                    self.assertEqual(sheets.rungs_everywhere(sheet), [0])
+                    self.assertIs(sheets.are_like(3, [[1]], sheet), many * items == 1)
+                else:
+                    self.assert_told(InvalidForm, sheet, sheets.rungs, {"width": 3, "sheet": sheet}, True)
+                    self.assert_told(InvalidForm, sheet, sheets.are_like, {"width": 3, "one": [[1]], "other": sheet}, True)
+        for width in (1, 2, 63, 64):
+            for wrong in no_words_of(width):
+                self.assert_told(InvalidWord, wrong, sheets.pair_count, {"w": width, "s": FORM, "x": wrong}, False)
+            sheets.pair_count(width, FORM, 2 ** width - 1)
+
+    def test_alternating_sheets_are_told_by_their_own_width(self):
+        turned = [[0, 1], [7, 0]]
+        for width in range(1, 65):
+            for function in (alternating.pair_rungs, alternating.paired):
+                if width <= 3:
+                    function(width, turned)
+                else:
+                    self.assert_told(InvalidForm, turned, function, {"width": width, "sheet": turned}, True)
+            self.assertIs(alternating.is_alternating(width, turned), width <= 3)
+
+    def test_errors_of_a_book(self):
+        some = book.FormBook(3, FORM)
+        for wrong in no_words(3, 2):
+            self.assert_told(InvalidWords, wrong, some.value, {"words": wrong}, True)
+        for wrong in others() + [("only", [2]), ("width", 65)]:
+            if type(wrong) is not book.FormBook:
+                self.assert_told(InvalidDeed, wrong, some.alike, {"other": wrong}, True)
+            self.assert_told(InvalidDeed, wrong, some.do, {"deed": wrong}, True)
+            self.assertIs(book.is_deed(some, wrong), False)
+        self.assertEqual((some.width(), some.form(), some.log()), (3, FORM, []))
 
     def assert_too_many(self, number, function, *arguments):
         with self.assertRaises(TooMany) as found:
@@ -518,9 +611,18 @@ class Questions(unittest.TestCase):
             self.assertIs(roads.is_road([], [], value), value == [[]] and isinstance(value, list), value)
             self.assertIs(leading.is_leading(3, FORM, UNIT, [value]), False, value)
             self.assertIs(kept.is_keeping(3, FORM, value), False, value)
+            self.assertIs(sheets.is_diagonal(3, FORM, value), False, value)
+            self.assertIs(alternating.is_paired(3, [[0, 6], [2, 0]], value), False, value)
+            self.assertIs(book.is_deed(book.FormBook(3, FORM), value), False, value)
         for value in no_changes() + [[[1]], THREE, SIX]:
             self.assertIs(leading.is_leading(3, [[0, 0], [0, 0]], [[0, 0], [0, 0]], value), False, value)
             self.assertIs(kept.is_keeping(3, [[0, 0], [0, 0]], value), False, value)
+
+    def test_is_alternating(self):
+        for value in no_alternating():
+            self.assertIs(alternating.is_alternating(3, value), False, value)
+        for value in ([[0]], [[8]], [[0, 1], [7, 0]], [[-8, 9], [-1, 16]], [[0] * 6] * 6):
+            self.assertIs(alternating.is_alternating(3, value), True, value)
 
     def test_is_split_takes_any_value(self):
         for value in others() + no_pieces() + no_changes():
