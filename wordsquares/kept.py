@@ -49,7 +49,7 @@ def all_tables(width, size):
     places = [(i, j) for i in range(size) for j in range(i, size)]
     sides = [1 << width if i == j else 1 << (width - 1) for i, j in places]
     found = []
-    for items in joined_lists([[[item] for item in range(side)] for side in sides]):
+    for items in joined_lists([[[word] for word in range(side)] for side in sides]):
         rows = [[0] * size for _ in range(size)]
         for (i, j), item in zip(places, items):
             rows[i][j] = rows[j][i] = item
